@@ -1,0 +1,1 @@
+"""Evenkinds: programs over kinds of finitely many things."""

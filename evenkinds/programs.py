@@ -1,0 +1,174 @@
+"""Programs, their inner ones, places and kinds: points 5 to 8 of the document."""
+
+from evenkinds.errors import NoKind
+from evenkinds.shelf import Shelf
+
+# Where the inner ones begin in a program's tuple; they reach to its end.
+INNER_FROM = {
+    "name": 2,
+    "star": 1,
+    "pair": 1,
+    "first": 1,
+    "second": 1,
+    "left": 2,
+    "right": 2,
+    "case": 1,
+    "way": 2,
+    "give": 1,
+    "let": 1,
+    "never": 2,
+}
+
+# The inner ones, by number, that stand under one name more.
+UNDER_ONE_MORE = {"case": (1, 2), "way": (0,), "let": (1,)}
+
+
+def inner(program):
+    return list(program[INNER_FROM[program[0]]:])
+
+
+def with_inner(program, parts):
+    return program[:INNER_FROM[program[0]]] + tuple(parts)
+
+
+def names_more(program, number):
+    return 1 if number in UNDER_ONE_MORE.get(program[0], ()) else 0
+
+
+def at_place(program, place):
+    here = program
+    for number in place:
+        parts = inner(here)
+        if number < 0 or number >= len(parts):
+            return None
+        here = parts[number]
+    return here
+
+
+def replaced(program, place, other):
+    above = []
+    here = program
+    for number in place:
+        above.append((here, number))
+        here = inner(here)[number]
+    answer = other
+    for outer, number in reversed(above):
+        parts = inner(outer)
+        parts[number] = answer
+        answer = with_inner(outer, parts)
+    return answer
+
+
+# Programs that are told may be far deeper than 60, so the way back up is kept in a list and not by calls in calls.
+# The name 0 is the last of the list of names, so that a new one is put on and taken off at its end.
+def kind_of(program, names):
+    shelf = Shelf()
+    known = [shelf.laid(kind) for kind in reversed(names)]
+    begun = [program]
+    kinds = [[]]
+    while True:
+        here = begun[-1]
+        parts = inner(here)
+        number = len(kinds[-1])
+        if number < len(parts):
+            if names_more(here, number) == 1:
+                known.append(new_name(here, kinds[-1], number, shelf))
+            begun.append(parts[number])
+            kinds.append([])
+            continue
+        kind = BY_WORD[here[0]](here, kinds[-1], known, shelf)
+        begun.pop()
+        kinds.pop()
+        if len(begun) == 0:
+            return shelf.kind_at(kind)
+        if names_more(begun[-1], len(kinds[-1])) == 1:
+            known.pop()
+        kinds[-1].append(kind)
+
+
+def new_name(program, kinds, number, shelf):
+    if program[0] == "way":
+        return shelf.laid(program[1])
+    if program[0] == "let":
+        return kinds[0]
+    return halves_of("either", kinds[0], shelf)[number - 1]
+
+
+def halves_of(word, kind, shelf):
+    if shelf.word_at(kind) != word:
+        raise NoKind()
+    return shelf.within(kind)
+
+
+def kind_of_name(program, kinds, known, shelf):
+    number = program[1]
+    if number < 0 or number >= len(known):
+        raise NoKind()
+    return known[len(known) - 1 - number]
+
+
+def kind_of_star(program, kinds, known, shelf):
+    return shelf.laid(("one",))
+
+
+def kind_of_pair(program, kinds, known, shelf):
+    return shelf.built("both", kinds[0], kinds[1])
+
+
+def kind_of_first(program, kinds, known, shelf):
+    return halves_of("both", kinds[0], shelf)[0]
+
+
+def kind_of_second(program, kinds, known, shelf):
+    return halves_of("both", kinds[0], shelf)[1]
+
+
+def kind_of_left(program, kinds, known, shelf):
+    return shelf.built("either", kinds[0], shelf.laid(program[1]))
+
+
+def kind_of_right(program, kinds, known, shelf):
+    return shelf.built("either", shelf.laid(program[1]), kinds[0])
+
+
+def kind_of_case(program, kinds, known, shelf):
+    if not shelf.are_same(kinds[1], kinds[2]):
+        raise NoKind()
+    return kinds[1]
+
+
+def kind_of_way(program, kinds, known, shelf):
+    return shelf.built("way", shelf.laid(program[1]), kinds[0])
+
+
+def kind_of_give(program, kinds, known, shelf):
+    ends = halves_of("way", kinds[0], shelf)
+    if not shelf.are_same(ends[0], kinds[1]):
+        raise NoKind()
+    return ends[1]
+
+
+def kind_of_let(program, kinds, known, shelf):
+    return kinds[1]
+
+
+def kind_of_never(program, kinds, known, shelf):
+    if shelf.word_at(kinds[0]) != "none":
+        raise NoKind()
+    return shelf.laid(program[1])
+
+
+BY_WORD = {
+    "name": kind_of_name,
+    "star": kind_of_star,
+    "pair": kind_of_pair,
+    "first": kind_of_first,
+    "second": kind_of_second,
+    "left": kind_of_left,
+    "right": kind_of_right,
+    "case": kind_of_case,
+    "way": kind_of_way,
+    "give": kind_of_give,
+    "let": kind_of_let,
+    "never": kind_of_never,
+}

@@ -1,0 +1,71 @@
+"""[1] of every function: nothing handed in is changed, and asked again with the same, it tells the same."""
+
+import copy
+import unittest
+
+from evenkinds.errors import NoKind
+from evenkinds.kinds import count, gift, things
+from evenkinds.names import lifted, put_in
+from evenkinds.programs import at_place, inner, kind_of, replaced
+from tests.samples import FOUR, NONE, ONE, ONE_OF_EACH, STAR, TWO, Maker, both, name, places, small_kinds, way
+
+
+def whole(told):
+    """Told are numbers, texts, tuples and lists alone, and no number is a truth."""
+    if type(told) in (tuple, list):
+        return all(whole(one) for one in told)
+    return type(told) in (int, str)
+
+
+class AskedAgain(unittest.TestCase):
+    def twice(self, asked, *handed):
+        before = copy.deepcopy(handed)
+        told = asked(*handed)
+        kept = copy.deepcopy(told)
+        self.assertEqual(handed, before)
+        self.assertTrue(told is None or whole(told))
+        if isinstance(told, list):
+            told.append("changed by the asker")
+            self.assertEqual(handed, before)
+        again = asked(*handed)
+        self.assertEqual(again, kept)
+        self.assertEqual(asked(*copy.deepcopy(handed)), kept)
+        self.assertEqual(handed, before)
+
+    def test_kinds(self):
+        for kind in small_kinds(2) + [FOUR, way(TWO, FOUR), both(FOUR, TWO)]:
+            self.twice(count, kind)
+            self.twice(things, kind)
+
+    def test_gift(self):
+        for thing in things(way(TWO, FOUR)):
+            for one in things(TWO):
+                self.twice(gift, way(TWO, FOUR), thing, one)
+
+    def test_programs(self):
+        for program in ONE_OF_EACH + tuple(Maker(seed).any_program(5) for seed in range(30)):
+            self.twice(inner, program)
+            for place in places(program) + [(3,), (-1,), (0, 0, 0, 0, 0, 0, 0)]:
+                self.twice(at_place, program, place)
+            for place in places(program):
+                self.twice(replaced, program, place, ("left", ONE, name(2)))
+            self.twice(lifted, program, 2, 1)
+            self.twice(put_in, program, ("let", name(1), name(0)))
+
+    def test_kind_of(self):
+        names = (NONE, TWO, ONE)
+        for seed in range(40):
+            maker = Maker(seed)
+            self.twice(kind_of, maker.of_kind(maker.kind(), names, 5), names)
+
+    def test_a_refusal_leaves_nothing_behind(self):
+        bad = ("way", TWO, ("let", STAR, ("case", name(1), name(0), name(7))))
+        good = ("way", TWO, ("let", STAR, ("case", name(1), name(0), name(0))))
+        for turn in range(2):
+            with self.assertRaises(NoKind):
+                kind_of(bad, (ONE,))
+            self.assertEqual(kind_of(good, (ONE,)), way(TWO, ONE))
+
+
+if __name__ == "__main__":
+    unittest.main()
