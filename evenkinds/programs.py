@@ -60,30 +60,56 @@ def replaced(program, place, other):
 
 
 # Programs that are told may be far deeper than 60, so the way back up is kept in a list and not by calls in calls.
-# The name 0 is the last of the list of names, so that a new one is put on and taken off at its end.
-def kind_of(program, names):
-    shelf = Shelf()
-    known = [shelf.laid(kind) for kind in reversed(names)]
+# Each part is made of what its inner ones were made to. The name 0 is the last of those known, so that a new one is
+# put on and taken off at the end.
+def folded(program, known, named, made):
     begun = [program]
-    kinds = [[]]
+    answers = [[]]
     while True:
         here = begun[-1]
         parts = inner(here)
-        number = len(kinds[-1])
+        number = len(answers[-1])
         if number < len(parts):
             if names_more(here, number) == 1:
-                known.append(new_name(here, kinds[-1], number, shelf))
+                known.append(named(here, answers[-1], number))
             begun.append(parts[number])
-            kinds.append([])
+            answers.append([])
             continue
-        kind = BY_WORD[here[0]](here, kinds[-1], known, shelf)
+        answer = made(here, answers[-1], known)
         begun.pop()
-        kinds.pop()
+        answers.pop()
         if len(begun) == 0:
-            return shelf.kind_at(kind)
-        if names_more(begun[-1], len(kinds[-1])) == 1:
+            return answer
+        if names_more(begun[-1], len(answers[-1])) == 1:
             known.pop()
-        kinds[-1].append(kind)
+        answers[-1].append(answer)
+
+
+def kind_of(program, names):
+    shelf = Shelf()
+    return shelf.kind_at(shelved_kind(program, shelved_names(names, shelf), shelf))
+
+
+# On one shelf, since two kinds that were told apart from one another could be too large to be compared.
+def are_of_one_kind(one, other, names):
+    shelf = Shelf()
+    known = shelved_names(names, shelf)
+    first = shelved_kind(one, known, shelf)
+    return shelf.are_same(first, shelved_kind(other, known, shelf))
+
+
+def shelved_names(names, shelf):
+    return [shelf.laid(kind) for kind in reversed(names)]
+
+
+def shelved_kind(program, known, shelf):
+    def named(here, kinds, number):
+        return new_name(here, kinds, number, shelf)
+
+    def made(here, kinds, known_here):
+        return BY_WORD[here[0]](here, kinds, known_here, shelf)
+
+    return folded(program, known, named, made)
 
 
 def new_name(program, kinds, number, shelf):

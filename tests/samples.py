@@ -3,6 +3,8 @@
 import itertools
 import random
 
+from evenkinds.names import lifted, put_in
+
 NONE = ("none",)
 ONE = ("one",)
 
@@ -82,6 +84,14 @@ def places(program):
     for number, part in enumerate(parts_again(program)):
         answer.extend((number,) + place for place in places(part))
     return answer
+
+
+def replaced_again(program, place, other):
+    if place == ():
+        return other
+    parts = parts_again(program)
+    parts[place[0]] = replaced_again(parts[place[0]], place[1:], other)
+    return program[:len(program) - len(parts)] + tuple(parts)
 
 
 def kind_again(program, names):
@@ -223,3 +233,175 @@ def chain(deep, step, end):
     for number in range(deep):
         program = step(program)
     return program
+
+
+def told_again(program, row, names):
+    """What a program tells at a row, by the words of [10]; every way is told whole."""
+    word = program[0]
+    if word == "name":
+        return row[program[1]]
+    if word == "star":
+        return ()
+    if word == "pair":
+        return ("p", told_again(program[1], row, names), told_again(program[2], row, names))
+    if word in ("first", "second"):
+        return told_again(program[1], row, names)[("first", "second").index(word) + 1]
+    if word in ("left", "right"):
+        return (word[0], told_again(program[2], row, names))
+    if word == "way":
+        more = (program[1],) + names
+        return ("w", tuple(told_again(program[2], (a,) + row, more) for a in things_again(program[1])))
+    if word == "never":
+        raise AssertionError("a thing of none is told")
+    thing = told_again(program[1], row, names)
+    kind = kind_again(program[1], names)
+    if word == "let":
+        return told_again(program[2], (thing,) + row, (kind,) + names)
+    if word == "case":
+        side = "lr".index(thing[0])
+        return told_again(program[2 + side], (thing[1],) + row, (kind[1 + side],) + names)
+    return thing[1][things_again(kind[1]).index(told_again(program[2], row, names))]
+
+
+def rows_again(names):
+    return list(itertools.product(*[things_again(kind) for kind in names]))
+
+
+def table_again(program, names):
+    return [told_again(program, row, names) for row in rows_again(names)]
+
+
+def is_empty(kind):
+    if kind[0] in ("none", "one"):
+        return kind == NONE
+    first, second = is_empty(kind[1]), is_empty(kind[2])
+    return {"either": first and second, "both": first or second, "way": second and not first}[kind[0]]
+
+
+def absurd(program, kind, wanted):
+    """A program of the wanted kind, made of one of a kind without things."""
+    if kind == NONE:
+        return ("never", wanted, program)
+    if kind[0] == "both":
+        return absurd(("first", program), kind[1], wanted) if is_empty(kind[1]) else \
+            absurd(("second", program), kind[2], wanted)
+    if kind[0] == "way":
+        return absurd(("give", program, simple(kind[1], ())), kind[2], wanted)
+    return ("case", program, absurd(name(0), kind[1], wanted), absurd(name(0), kind[2], wanted))
+
+
+def simple(kind, names):
+    """Some program of the kind, which has things or stands under a name of a kind without things."""
+    if is_empty(kind):
+        for number, one in enumerate(names):
+            if is_empty(one):
+                return absurd(name(number), one, kind)
+        raise AssertionError("no such program")
+    if kind == ONE:
+        return STAR
+    if kind[0] == "both":
+        return ("pair", simple(kind[1], names), simple(kind[2], names))
+    if kind[0] == "way":
+        return ("way", kind[1], simple(kind[2], (kind[1],) + names))
+    if is_empty(kind[1]):
+        return ("right", kind[1], simple(kind[2], names))
+    return ("left", kind[2], simple(kind[1], names))
+
+
+class Total(Maker):
+    """Makes programs of a kind over any names, as long as there is one."""
+
+    def __init__(self, seed, kinds=Maker.KINDS):
+        Maker.__init__(self, seed)
+        self.kinds = kinds
+
+    def some_kind(self, names):
+        """A kind of which there is a program over the names."""
+        any_empty = any(is_empty(one) for one in names)
+        return self.chance.choice([kind for kind in self.kinds if any_empty or not is_empty(kind)])
+
+    def of_kind(self, kind, names, deep):
+        plain = [name(number) for number, one in enumerate(names) if one == kind]
+        if plain and (deep <= 1 or self.chance.random() < 0.2):
+            return self.chance.choice(plain)
+        if deep <= 1:
+            return simple(kind, names)
+        builders = [self.first, self.second, self.case, self.give, self.let] + [self.own] * 3
+        if any(is_empty(one) for one in names):
+            builders += [self.never]
+        return self.chance.choice(builders)(kind, names, deep)
+
+    def own(self, kind, names, deep):
+        if kind == NONE:
+            return self.let(kind, names, deep)
+        if kind == ONE:
+            return STAR
+        if kind[0] == "both":
+            return ("pair", self.of_kind(kind[1], names, deep - 1), self.of_kind(kind[2], names, deep - 1))
+        if kind[0] == "way":
+            return ("way", kind[1], self.of_kind(kind[2], (kind[1],) + names, deep - 1))
+        open_to_all = any(is_empty(one) for one in names)
+        sides = [side for side in (1, 2) if open_to_all or not is_empty(kind[side])]
+        if not sides:
+            return self.let(kind, names, deep)
+        side = self.chance.choice(sides)
+        return (("left", "right")[side - 1], kind[3 - side], self.of_kind(kind[side], names, deep - 1))
+
+    def first(self, kind, names, deep):
+        return ("first", self.of_kind(both(kind, self.some_kind(names)), names, deep - 1))
+
+    def second(self, kind, names, deep):
+        return ("second", self.of_kind(both(self.some_kind(names), kind), names, deep - 1))
+
+    def case(self, kind, names, deep):
+        a, b = self.some_kind(names), self.chance.choice(self.kinds)
+        a, b = self.chance.choice(((a, b), (b, a)))
+        asked = self.of_kind(either(a, b), names, deep - 1)
+        left = self.of_kind(kind, (a,) + names, deep - 1)
+        return ("case", asked, left, self.of_kind(kind, (b,) + names, deep - 1))
+
+    def give(self, kind, names, deep):
+        a = self.some_kind(names)
+        return ("give", self.of_kind(way(a, kind), names, deep - 1), self.of_kind(a, names, deep - 1))
+
+    def let(self, kind, names, deep):
+        a = self.some_kind(names)
+        return ("let", self.of_kind(a, names, deep - 1), self.of_kind(kind, (a,) + names, deep - 1))
+
+    def step(self, word, kind, names, deep):
+        """One, other and C of a step of the word, of the kind; None where there is none of this kind."""
+        a, b = self.some_kind(names), self.some_kind(names)
+        under = (a,) + names
+        if word == "let":
+            one = ("let", self.of_kind(a, names, deep), self.of_kind(kind, under, deep))
+            return one, put_in(one[2], one[1]), None
+        if word == "give":
+            one = ("give", ("way", a, self.of_kind(kind, under, deep)), self.of_kind(a, names, deep))
+            return one, put_in(one[1][2], one[2]), None
+        if word in ("first", "second"):
+            kept, lost = self.of_kind(kind, names, deep), self.of_kind(a, names, deep)
+            one = (word, ("pair", kept, lost) if word == "first" else ("pair", lost, kept))
+            return one, kept, None
+        if word in ("left", "right"):
+            left, right = self.of_kind(kind, under, deep), self.of_kind(kind, (b,) + names, deep)
+            if word == "left":
+                asked = ("left", b, self.of_kind(a, names, deep))
+                return ("case", asked, left, right), put_in(left, asked[2]), None
+            asked = ("right", a, self.of_kind(b, names, deep))
+            return ("case", asked, left, right), put_in(right, asked[2]), None
+        if word == "split":
+            asked = self.of_kind(either(a, b), names, deep)
+            through = self.of_kind(kind, (either(a, b),) + names, deep)
+            lower = lifted(through, 1, 1)
+            other = ("case", asked, put_in(lower, ("left", b, name(0))), put_in(lower, ("right", a, name(0))))
+            return put_in(through, asked), other, through
+        one = self.of_kind(kind, names, deep)
+        if word == "star" and kind == ONE:
+            return one, STAR, None
+        if word == "pair" and kind[0] == "both":
+            return one, ("pair", ("first", one), ("second", one)), None
+        if word == "way" and kind[0] == "way":
+            return one, ("way", kind[1], ("give", lifted(one, 1, 0), name(0))), None
+        if word == "never" and any(is_empty(one) for one in names):
+            return one, ("never", kind, self.of_kind(NONE, names, deep)), None
+        return None

@@ -3,29 +3,38 @@
 import copy
 import unittest
 
+from evenkinds.book import WORDS, is_step
 from evenkinds.errors import NoKind
 from evenkinds.kinds import count, gift, things
 from evenkinds.names import lifted, put_in
 from evenkinds.programs import at_place, inner, kind_of, replaced
-from tests.samples import FOUR, NONE, ONE, ONE_OF_EACH, STAR, TWO, Maker, both, name, places, small_kinds, way
+from evenkinds.tables import rows, table
+from evenkinds.walked import names_at, reverse, walked
+from evenkinds.worlds import told
+from tests.samples import (
+    FOUR, NONE, ONE, ONE_OF_EACH, STAR, THREE, TWO, Maker, Total, both, name, places, small_kinds, way,
+)
+
+NAMES = ((), (TWO,), (THREE, TWO), (NONE, TWO), (way(TWO, TWO),))
 
 
-def whole(told):
-    """Told are numbers, texts, tuples and lists alone, and no number is a truth."""
-    if type(told) in (tuple, list):
-        return all(whole(one) for one in told)
-    return type(told) in (int, str)
+def whole(answer):
+    """Told are numbers, texts, tuples and lists alone (and None in a step), and no number is a truth."""
+    if type(answer) in (tuple, list):
+        return all(whole(one) for one in answer)
+    return answer is None or type(answer) in (int, str)
 
 
 class AskedAgain(unittest.TestCase):
     def twice(self, asked, *handed):
         before = copy.deepcopy(handed)
-        told = asked(*handed)
-        kept = copy.deepcopy(told)
+        answer = asked(*handed)
+        kept = copy.deepcopy(answer)
         self.assertEqual(handed, before)
-        self.assertTrue(told is None or whole(told))
-        if isinstance(told, list):
-            told.append("changed by the asker")
+        self.assertTrue(whole(answer))
+        if isinstance(answer, list):
+            answer.append("changed by the asker")
+            answer[0] = "changed by the asker"
             self.assertEqual(handed, before)
         again = asked(*handed)
         self.assertEqual(again, kept)
@@ -57,6 +66,34 @@ class AskedAgain(unittest.TestCase):
         for seed in range(40):
             maker = Maker(seed)
             self.twice(kind_of, maker.of_kind(maker.kind(), names, 5), names)
+
+    def programs(self):
+        for seed in range(30):
+            maker = Total(seed)
+            names = NAMES[seed % len(NAMES)]
+            yield maker, names, maker.of_kind(maker.some_kind(names), names, 4)
+
+    def test_worlds_and_tables(self):
+        for maker, names, program in self.programs():
+            self.twice(rows, names)
+            self.twice(table, program, names)
+            for row in rows(names):
+                self.twice(told, program, row, names)
+
+    def test_book_and_walked(self):
+        for maker, names, program in self.programs():
+            for place in places(program):
+                self.twice(names_at, program, place, names)
+            for word in WORDS:
+                found = maker.step(word, maker.some_kind(names), names, 3)
+                if found is not None:
+                    one, other, through = found
+                    handed = (word, one, other, names, through)
+                    before = copy.deepcopy(handed)
+                    self.assertEqual([is_step(*handed), is_step(*handed), handed], [True, True, before])
+                    row = [((), word, one, other, through), ((), word, other, one, through)]
+                    self.twice(walked, one, names, row)
+                    self.twice(reverse, row)
 
     def test_a_refusal_leaves_nothing_behind(self):
         bad = ("way", TWO, ("let", STAR, ("case", name(1), name(0), name(7))))
