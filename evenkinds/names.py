@@ -4,41 +4,62 @@ from evenkinds.programs import inner, names_more, with_inner
 
 
 def lifted(program, many, least):
-    def moved(number, under):
-        if number >= under and number - under >= least:
-            return ("name", number + many)
-        return ("name", number)
+    # So a large program that is put in under no further names is not walked.
+    if many == 0:
+        return program
 
-    return with_names(program, moved)
+    def changed(part, under):
+        if part[0] == "name" and part[1] >= under and part[1] - under >= least:
+            return ("name", part[1] + many)
+        return None
+
+    return with_parts(program, changed)
 
 
 def put_in(program, other):
-    copies = copies_for(program, other)
+    wanted = [under for part, under, unchanged in all_parts(program) if part == ("name", under)]
+    copies = copies_under(other, wanted)
 
-    def moved(number, under):
-        if number < under:
-            return ("name", number)
-        if number == under:
+    def changed(part, under):
+        if part[0] != "name" or part[1] < under:
+            return None
+        if part[1] == under:
             return copies[under]
-        return ("name", number - 1)
+        return ("name", part[1] - 1)
 
-    return with_names(program, moved)
+    return with_parts(program, changed)
 
 
-# Lifted once for each number of names that it comes to stand under, not once for each name it takes the place of.
-def copies_for(program, other):
+# The program C, under one name more, into which the one sought is put in to tell the program: the new name stands
+# wherever the one sought stood.
+def taken_out(program, sought):
+    copies = copies_under(sought, [under for part, under, unchanged in all_parts(program)])
+
+    def changed(part, under):
+        if part == copies[under]:
+            return ("name", under)
+        if part[0] == "name" and part[1] >= under:
+            return ("name", part[1] + 1)
+        return None
+
+    return with_parts(program, changed)
+
+
+# Lifted once for each number of names that it comes to stand under, not once for each place.
+def copies_under(program, unders):
     copies = {}
-    for part, under in parts_under(program):
-        if part[0] == "name" and part[1] == under and under not in copies:
-            copies[under] = lifted(other, under, 0)
+    for under in unders:
+        if under not in copies:
+            copies[under] = lifted(program, under, 0)
     return copies
 
 
-def with_names(program, moved):
+# The program with what each part is changed to in its place; where that is None, its inner ones are gone through.
+def with_parts(program, changed):
     done = []
-    for part, under in reversed(parts_under(program)):
-        if part[0] == "name":
-            done.append(moved(part[1], under))
+    for part, under, other in reversed(parts_under(program, changed)):
+        if other is not None:
+            done.append(other)
         else:
             done.append(with_inner(part, taken(done, len(inner(part)))))
     return done[0]
@@ -52,15 +73,21 @@ def taken(done, many):
     return parts
 
 
-# Each part with the number of names more that it stands under, ahead of its inner ones, the last of them first: so,
-# walked from behind, the inner ones are done in order and ahead of what they are in. Programs that are told may be
-# far deeper than 60, so this goes through a list and not by calls in calls.
-def parts_under(program):
+# Each part with the number of names more that it stands under and what it is changed to, ahead of its inner ones, the
+# last of them first: so, walked from behind, the inner ones are done in order and ahead of what they are in. Programs
+# that are told may be far deeper than 60, so this goes through a list and not by calls in calls.
+def parts_under(program, changed):
     order = []
     ahead = [(program, 0)]
     while len(ahead) > 0:
         here = ahead.pop()
-        order.append(here)
         part = here[0]
-        ahead.extend([(one, here[1] + names_more(part, number)) for number, one in enumerate(inner(part))])
+        other = changed(part, here[1])
+        order.append((part, here[1], other))
+        if other is None:
+            ahead.extend([(one, here[1] + names_more(part, number)) for number, one in enumerate(inner(part))])
     return order
+
+
+def all_parts(program):
+    return parts_under(program, lambda part, under: None)

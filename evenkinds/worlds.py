@@ -7,6 +7,7 @@ far deeper than 60.
 """
 
 from evenkinds.kinds import things
+from evenkinds.names import taken
 
 SIGNS = {"pair": "p", "left": "l", "right": "r"}
 
@@ -158,11 +159,7 @@ SEEN = {
 
 
 def join(world, task):
-    parts = []
-    for number in range(task[2]):
-        parts.append(world.done.pop())
-    parts.reverse()
-    world.done.append(Held(task[1], tuple(parts)))
+    world.done.append(Held(task[1], tuple(taken(world.done, task[2]))))
 
 
 def part_of(world, task):

@@ -405,3 +405,88 @@ class Total(Maker):
         if word == "never" and any(is_empty(one) for one in names):
             return one, ("never", kind, self.of_kind(NONE, names, deep)), None
         return None
+
+
+def step_again(program):
+    """The place, the word and what one and other of the step that [15] tells are, or None."""
+    word = program[0]
+    if word == "let":
+        return (), word, program, put_in(program[2], program[1])
+    if word not in ("give", "first", "second", "case", "never"):
+        return None
+    asked = parts_again(program)[0]
+    if word == "give" and asked[0] == "way":
+        return (), word, program, put_in(asked[2], program[2])
+    if word in ("first", "second") and asked[0] == "pair":
+        return (), word, program, asked[("first", "second").index(word) + 1]
+    if word == "case" and asked[0] in ("left", "right"):
+        branch = program[("left", "right").index(asked[0]) + 2]
+        return (), asked[0], program, put_in(branch, asked[2])
+    found = step_again(asked)
+    return None if found is None else ((0,) + found[0],) + found[1:]
+
+
+def run_again(program):
+    """All programs that come along a run, the program itself first."""
+    came = [program]
+    found = step_again(program)
+    while found is not None:
+        came.append(replaced_again(came[-1], found[0], found[3]))
+        found = step_again(came[-1])
+    return came
+
+
+def asked_again(expression, kind, wanted, then):
+    """What asks an expression of the kind, and goes on with each answer and the number of names that it stands under
+    by then, by the words of [18]."""
+    if kind == NONE:
+        return ("never", wanted, expression)
+    if kind == ONE:
+        return then((), 0)
+    if kind[0] == "either":
+        return ("case", expression, asked_again(name(0), kind[1], wanted, lambda a, more: then(("l", a), more + 1)),
+                asked_again(name(0), kind[2], wanted, lambda b, more: then(("r", b), more + 1)))
+    if kind[0] == "both":
+        return asked_again(
+            ("first", expression), kind[1], wanted, lambda a, more: asked_again(
+                ("second", lifted(expression, more, 0)), kind[2], wanted,
+                lambda b, further: then(("p", a, b), more + further)))
+
+    def gifts(answers, left, more):
+        if not left:
+            return then(("w", answers), more)
+        return asked_again(("give", lifted(expression, more, 0), plain_again(kind[1], left[0])), kind[2], wanted,
+                           lambda b, further: gifts(answers + (b,), left[1:], more + further))
+
+    return gifts((), things_again(kind[1]), 0)
+
+
+def plain_table_again(names, kind, table):
+    rows = rows_again(names)
+
+    def ask(row, more):
+        number = len(row)
+        if number == len(names):
+            return plain_again(kind, table[rows.index(row)])
+        return asked_again(name(number + more), names[number], kind,
+                           lambda thing, further: ask(row + (thing,), more + further))
+
+    return ask((), 0)
+
+
+def plain_again(kind, thing):
+    """The plain program of a thing, by the words of [17]."""
+    if kind == ONE:
+        return STAR
+    if kind[0] == "both":
+        return ("pair", plain_again(kind[1], thing[1]), plain_again(kind[2], thing[2]))
+    if kind[0] == "way":
+        return ("way", kind[1], plain_table_again(kind[1:2], kind[2], list(thing[1])))
+    if thing[0] == "l":
+        return ("left", kind[2], plain_again(kind[1], thing[1]))
+    return ("right", kind[1], plain_again(kind[2], thing[1]))
+
+
+def few(kinds, many):
+    """Those of the kinds that have at most so many things."""
+    return [kind for kind in kinds if len(things_again(kind)) <= many]

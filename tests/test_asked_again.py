@@ -6,8 +6,12 @@ import unittest
 from evenkinds.book import WORDS, is_step
 from evenkinds.errors import NoKind
 from evenkinds.kinds import count, gift, things
+from evenkinds.leader import lead
 from evenkinds.names import lifted, put_in
+from evenkinds.plain import plain_table, plain_thing
 from evenkinds.programs import at_place, inner, kind_of, replaced
+from evenkinds.reckoning import steps_of
+from evenkinds.running import going_on, run
 from evenkinds.tables import rows, table
 from evenkinds.walked import names_at, reverse, walked
 from evenkinds.worlds import told
@@ -94,6 +98,22 @@ class AskedAgain(unittest.TestCase):
                     row = [((), word, one, other, through), ((), word, other, one, through)]
                     self.twice(walked, one, names, row)
                     self.twice(reverse, row)
+
+    def test_running_and_reckoning(self):
+        for maker, names, program in self.programs():
+            self.twice(going_on, program)
+            self.twice(run, program)
+            self.twice(run, program, 1)
+            if names == ():
+                self.twice(steps_of, program)
+
+    def test_plain_and_leader(self):
+        for maker, names, program in self.programs():
+            kind = kind_of(program, names)
+            self.twice(plain_table, names, kind, table(program, names))
+            self.twice(lead, program, names)
+            for thing in table(program, names):
+                self.twice(plain_thing, kind, thing)
 
     def test_a_refusal_leaves_nothing_behind(self):
         bad = ("way", TWO, ("let", STAR, ("case", name(1), name(0), name(7))))

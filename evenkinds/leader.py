@@ -1,0 +1,131 @@
+"""A program led to the plain program of its table: what point 20 of the document says of one program.
+
+All names are asked as the plain program asks them, so that in the end a closed program is left for each row, with the
+plain programs of the row's things in the names' places; that is run, and what stands within what it comes to is led
+in turn. A name of a one, a both or a way is opened first: in a let around all that speaks of it, it is led to where
+it is looked at in every way, and put in again. What is asked then stands there word for word, and can be taken out.
+"""
+
+from evenkinds.book import are_alike, split
+from evenkinds.names import lifted, put_in, taken_out
+from evenkinds.plain import asked_names, expression, looked_at, opened
+from evenkinds.programs import at_place, kind_of, replaced
+from evenkinds.running import going_on
+
+
+def lead(program, names):
+    leader = Leader(program)
+    leader.ahead.append(("ask", (), len(names), asked_names(names), kind_of(program, names), None))
+    while len(leader.ahead) > 0:
+        task = leader.ahead.pop()
+        TASKS[task[0]](leader, task[1], task[2], task)
+    return leader.row
+
+
+class Leader:
+    def __init__(self, program):
+        self.program = program
+        self.row = []
+        self.ahead = []
+
+    def there(self, place):
+        return at_place(self.program, place)
+
+    def go(self, place, word, other, through):
+        self.row.append((place, word, self.there(place), other, through))
+        self.program = replaced(self.program, place, other)
+
+
+# At the place, over so many names, stands a program of the kind, in which the chain is to be asked. Where nothing is
+# left of it, the program is finished, or, given what a way's gifts are asked of, opened.
+def ask(leader, place, depth, task):
+    chain = task[3]
+    kind = task[4]
+    gifts_of = task[5]
+    if chain is None:
+        leader.ahead.append(last_task(leader, place, depth, kind, gifts_of))
+        return
+    asked = chain[0]
+    here = expression(asked[0], asked[1], depth)
+    if asked[2][0] == "none":
+        leader.go(place, "never", ("never", kind, here), None)
+    elif asked[2][0] == "either":
+        through = taken_out(leader.there(place), here)
+        leader.go(place, "split", split(through, here, asked[2]), through)
+        for number in (2, 1):
+            behind = ((depth, (), asked[2][number]), chain[1])
+            leader.ahead.append(("ask", place + (number,), depth + 1, behind, kind, gifts_of))
+    else:
+        leader.ahead.append(("ask", place, depth, opened(asked, chain[1]), kind, gifts_of))
+        if asked[1] == ():
+            put_around(leader, place, depth, asked)
+
+
+def last_task(leader, place, depth, kind, gifts_of):
+    if gifts_of is None:
+        return ("finish", place, depth, kind)
+    return ("open", place, depth, looked_at(gifts_of, ("give", leader.there(place)[2]), kind))
+
+
+# A name that the program doesn't speak of is not opened.
+def put_around(leader, place, depth, asked):
+    here = expression(asked[0], asked[1], depth)
+    through = taken_out(leader.there(place), here)
+    if not are_alike(through, lifted(leader.there(place), 1, 0)):
+        leader.go(place, "let", ("let", here, through), None)
+        leader.ahead.extend([("put in", place, depth), ("open", place + (0,), depth, asked)])
+
+
+def put_in_again(leader, place, depth, task):
+    here = leader.there(place)
+    leader.go(place, "let", put_in(here[2], here[1]), None)
+
+
+# At the place stands what is asked. An either and a none stay as they are.
+def open_up(leader, place, depth, task):
+    here = leader.there(place)
+    asked = task[3]
+    kind = asked[2]
+    if kind[0] == "one":
+        leader.go(place, "star", ("star",), None)
+    elif kind[0] == "both":
+        leader.go(place, "pair", ("pair", ("first", here), ("second", here)), None)
+        leader.ahead.append(("open", place + (1,), depth, looked_at(asked, ("second",), kind[2])))
+        leader.ahead.append(("open", place + (0,), depth, looked_at(asked, ("first",), kind[1])))
+    elif kind[0] == "way":
+        leader.go(place, "way", ("way", kind[1], ("give", lifted(here, 1, 0), ("name", 0))), None)
+        chain = ((depth, (), kind[1]), None)
+        leader.ahead.append(("ask", place + (0,), depth + 1, chain, kind[2], asked))
+
+
+# At the place stands a closed program.
+def finish(leader, place, depth, task):
+    kind = task[3]
+    if kind[0] == "one":
+        if leader.there(place) != ("star",):
+            leader.go(place, "star", ("star",), None)
+        return
+    here = run_at(leader, place)
+    if here[0] == "way":
+        chain = ((depth, (), kind[1]), None)
+        leader.ahead.append(("ask", place + (0,), depth + 1, chain, kind[2], None))
+    elif here[0] == "pair":
+        leader.ahead.extend([("finish", place + (1,), depth, kind[2]), ("finish", place + (0,), depth, kind[1])])
+    else:
+        leader.ahead.append(("finish", place + (0,), depth, kind[1] if here[0] == "left" else kind[2]))
+
+
+def run_at(leader, place):
+    step = going_on(leader.there(place))
+    while step is not None:
+        leader.go(place + step[0], step[1], step[3], None)
+        step = going_on(leader.there(place))
+    return leader.there(place)
+
+
+TASKS = {
+    "ask": ask,
+    "put in": put_in_again,
+    "open": open_up,
+    "finish": finish,
+}
