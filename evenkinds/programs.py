@@ -107,9 +107,14 @@ def shelved_kind(program, known, shelf):
         return new_name(here, kinds, number, shelf)
 
     def made(here, kinds, known_here):
-        return BY_WORD[here[0]](here, kinds, known_here, shelf)
+        return kind_by_parts(here, kinds, known_here, shelf)
 
     return folded(program, known, named, made)
+
+
+# The kind of a program, on the shelf, by those of its inner ones.
+def kind_by_parts(program, kinds, known, shelf):
+    return BY_WORD[program[0]](program, kinds, known, shelf)
 
 
 def new_name(program, kinds, number, shelf):

@@ -490,3 +490,64 @@ def plain_again(kind, thing):
 def few(kinds, many):
     """Those of the kinds that have at most so many things."""
     return [kind for kind in kinds if len(things_again(kind)) <= many]
+
+
+def looks_again(kind, length):
+    """All looks of so many at things of the kind, in the order of [22], whatever the things are."""
+    if length == 0:
+        return [[]]
+    if kind[0] == "both":
+        first = [[("first",)] + looks for looks in looks_again(kind[1], length - 1)]
+        return first + [[("second",)] + looks for looks in looks_again(kind[2], length - 1)]
+    if kind[0] == "either":
+        left = [[("left",)] + looks for looks in looks_again(kind[1], length - 1)]
+        return left + [[("right",)] + looks for looks in looks_again(kind[2], length - 1)]
+    if kind[0] == "way":
+        behind = looks_again(kind[2], length - 1)
+        return [[("give", thing)] + looks for thing in things_again(kind[1]) for looks in behind]
+    return []
+
+
+def looked_again(kind, thing, looks):
+    """The kind and the thing to which looks lead, or None, by the words of [21]."""
+    for look in looks:
+        if look[0] in ("left", "right"):
+            if thing[0] != look[0][0]:
+                return None
+            kind, thing = kind[("left", "right").index(look[0]) + 1], thing[1]
+        elif look[0] == "give":
+            kind, thing = kind[2], thing[1][things_again(kind[1]).index(look[1])]
+        else:
+            side = ("first", "second").index(look[0]) + 1
+            kind, thing = kind[side], thing[side]
+    return kind, thing
+
+
+def part_by(kind, one, other, looks):
+    ends = looked_again(kind, one, looks), looked_again(kind, other, looks)
+    return None not in ends and ends[0][0][0] == "either" and {ends[0][1][0], ends[1][1][0]} == {"l", "r"}
+
+
+def kind_depth(kind):
+    return 1 + max((kind_depth(part) for part in kind[1:]), default=0)
+
+
+def part_again(kind, one, other):
+    """The first looks that part two things, found by trying all."""
+    for length in range(kind_depth(kind)):
+        for looks in looks_again(kind, length):
+            if part_by(kind, one, other, looks):
+                return looks
+    return None
+
+
+def surrounding_again(one, other, names):
+    """The first surrounding, found by trying all looks at all rows."""
+    kind = kind_again(one, names)
+    told = list(zip(rows_again(names), table_again(one, names), table_again(other, names)))
+    for length in range(kind_depth(kind)):
+        for looks in looks_again(kind, length):
+            for row, first, second in told:
+                if part_by(kind, first, second, looks):
+                    return row, looks
+    return None

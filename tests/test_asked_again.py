@@ -3,10 +3,13 @@
 import copy
 import unittest
 
+from evenkinds.around import surrounded, surrounding
+from evenkinds.between import between
 from evenkinds.book import WORDS, is_step
 from evenkinds.errors import NoKind
 from evenkinds.kinds import count, gift, things
 from evenkinds.leader import lead
+from evenkinds.looks import looked, part
 from evenkinds.names import lifted, put_in
 from evenkinds.plain import plain_table, plain_thing
 from evenkinds.programs import at_place, inner, kind_of, replaced
@@ -114,6 +117,19 @@ class AskedAgain(unittest.TestCase):
             self.twice(lead, program, names)
             for thing in table(program, names):
                 self.twice(plain_thing, kind, thing)
+
+    def test_between_looks_and_around(self):
+        for maker, names, program in self.programs():
+            kind = kind_of(program, names)
+            for other in (maker.of_kind(kind, names, 4), ("let", program, name(0))):
+                self.twice(between, program, other, names)
+                self.twice(surrounding, program, other, names)
+                found = surrounding(program, other, names)
+                if found is not None:
+                    self.twice(surrounded, program, names, found[0], found[1])
+                    self.twice(looked, kind, told(program, found[0], names), found[1])
+                for row in rows(names):
+                    self.twice(part, kind, told(program, row, names), told(other, row, names))
 
     def test_a_refusal_leaves_nothing_behind(self):
         bad = ("way", TWO, ("let", STAR, ("case", name(1), name(0), name(7))))
