@@ -35,15 +35,15 @@ ASKERS = {"pair": ("first", "second"), "way": ("give",), "split": ("case",)}
 
 
 def odd_kind(word, kind):
-    return read_kind(word, kind)[0]
+    return read_oddly(word, kind)[0]
 
 
 def has_things(word, kind):
-    return read_kind(word, kind)[1]
+    return read_oddly(word, kind)[1]
 
 
 # The kind, and whether it has things.
-def read_kind(word, kind):
+def read_oddly(word, kind):
     ends = {"none": (NONE, False), "one": (ONE, True)}
     if word == "star":
         ends["one"] = (TWO, True)

@@ -6,18 +6,22 @@ import unittest
 from evenkinds.around import surrounded, surrounding
 from evenkinds.between import between
 from evenkinds.book import WORDS, is_step
-from evenkinds.errors import NoKind
+from evenkinds.desk import answered
+from evenkinds.errors import NoKind, NoStep, NoText
+from evenkinds.kept import kept, unlike
 from evenkinds.kinds import count, gift, things
 from evenkinds.leader import lead
 from evenkinds.looks import looked, part
 from evenkinds.names import lifted, put_in
 from evenkinds.plain import plain_table, plain_thing
 from evenkinds.programs import at_place, inner, kind_of, replaced
+from evenkinds.reading import read_kind, read_program, read_thing
 from evenkinds.reckoning import steps_of
 from evenkinds.running import going_on, run
 from evenkinds.tables import rows, table
 from evenkinds.walked import names_at, reverse, walked
 from evenkinds.worlds import told
+from evenkinds.writing import show_kind, show_program, show_thing
 from tests.samples import (
     FOUR, NONE, ONE, ONE_OF_EACH, STAR, THREE, TWO, Maker, Total, both, name, places, small_kinds, way,
 )
@@ -130,6 +134,41 @@ class AskedAgain(unittest.TestCase):
                     self.twice(looked, kind, told(program, found[0], names), found[1])
                 for row in rows(names):
                     self.twice(part, kind, told(program, row, names), told(other, row, names))
+
+    def test_kept(self):
+        for word in WORDS:
+            self.twice(unlike, word)
+            one, other, names, through = unlike(word)
+            for another in WORDS:
+                self.twice(kept, another, one, names)
+                self.twice(kept, another, other, names)
+
+    def test_texts_and_desk(self):
+        for maker, names, program in self.programs():
+            kind = kind_of(program, names)
+            other = maker.of_kind(kind, names, 3)
+            self.twice(show_kind, kind)
+            self.twice(read_kind, show_kind(kind))
+            self.twice(show_program, program)
+            self.twice(read_program, show_program(program))
+            for thing in table(program, names):
+                self.twice(show_thing, thing)
+                self.twice(read_thing, show_thing(thing))
+            self.twice(answered, [show_kind(one) for one in names], show_program(program), show_program(other))
+
+    def test_other_refusals_leave_nothing_behind(self):
+        row = [((), "let", ("let", STAR, name(0)), STAR, None), ((0,), "let", STAR, STAR, None)]
+        for turn in range(2):
+            with self.assertRaises(NoStep) as taken:
+                walked(("let", STAR, name(0)), (), row)
+            self.assertEqual(taken.exception.at, 1)
+            self.assertEqual(walked(("let", STAR, name(0)), (), row[:1]), STAR)
+            with self.assertRaises(NoText):
+                read_program("[let . #0")
+            self.assertEqual(read_program("[let . #0]"), ("let", STAR, name(0)))
+            with self.assertRaises(NoKind):
+                answered(["1"], "#0", "#1")
+            self.assertEqual(answered(["(1+1)"], "#0", "[inl 1 .]"), "unlike [>.] []")
 
     def test_a_refusal_leaves_nothing_behind(self):
         bad = ("way", TWO, ("let", STAR, ("case", name(1), name(0), name(7))))
