@@ -67,11 +67,13 @@ def last_task(leader, place, depth, kind, gifts_of):
     return ("open", place, depth, looked_at(gifts_of, ("give", leader.there(place)[2]), kind))
 
 
-# A name that the program doesn't speak of is not opened.
+# A name that the program doesn't speak of is not opened, and one that is the whole program needs no let.
 def put_around(leader, place, depth, asked):
     here = expression(asked[0], asked[1], depth)
     through = taken_out(leader.there(place), here)
-    if not are_alike(through, lifted(leader.there(place), 1, 0)):
+    if through == ("name", 0):
+        leader.ahead.append(("open", place, depth, asked))
+    elif not are_alike(through, lifted(leader.there(place), 1, 0)):
         leader.go(place, "let", ("let", here, through), None)
         leader.ahead.extend([("put in", place, depth), ("open", place + (0,), depth, asked)])
 

@@ -5,9 +5,9 @@ form: what a form is read as hangs on what its inner ones are read as and on the
 put in is read by itself, and a step within a program leads to the same table where it does so by itself. Each reading
 is such that all steps of the book do so, but those of its own word:
 
-- let: tells what is behind at the first thing of the let's kind.
+- let: of an either, it tells what is behind at the first thing.
 - give: a way is what it gives for the first thing.
-- first: a pair is its second, and its first is the first thing of its kind; second likewise.
+- first: a pair of an either and another is that other alone, and its first is the first thing; second likewise.
 - left: of a left nothing is left but that it is one, and inside it is taken to be the first thing; right likewise.
 - star: there are two things of one.
 - pair, way, split: each thing of a both, a way, an either is there twice, and both tell the same when asked.
@@ -42,23 +42,33 @@ def has_things(word, kind):
     return read_oddly(word, kind)[1]
 
 
-# The kind, and whether it has things.
+# Only an either is lost whole: kinds that double and double are built of others, and are then not walked.
+def is_lost(word, kind):
+    return kind[0] == "either" and has_things(word, kind)
+
+
+# The kind that it is read as, whether that has things, and the form of the kind as it stands.
 def read_oddly(word, kind):
-    ends = {"none": (NONE, False), "one": (ONE, True)}
+    ends = {"none": (NONE, False, "none"), "one": (ONE, True, "one")}
     if word == "star":
-        ends["one"] = (TWO, True)
+        ends["one"] = (TWO, True, "one")
     if word == "never":
-        ends["none"] = (ONE, True)
-    return built_up(kind, ends, lambda form, first, second: joined_kind(word, form, first, second))
+        ends["none"] = (ONE, True, "none")
+    return built_up(kind, ends, lambda form, first, second: joined_oddly(word, form, first, second))
+
+
+def joined_oddly(word, form, first, second):
+    has = joined_has_things(form, first[1], second[1])
+    if form == "both" and word == "first" and first[1] and first[2] == "either":
+        return (second[0], has, form)
+    if form == "both" and word == "second" and second[1] and second[2] == "either":
+        return (first[0], has, form)
+    if form == "way" and word == "give" and first[1]:
+        return (second[0], has, form)
+    return (joined_kind(word, form, first, second), has, form)
 
 
 def joined_kind(word, form, first, second):
-    if form == "both" and word == "first" and first[1]:
-        return second
-    if form == "both" and word == "second" and second[1]:
-        return first
-    if form == "way" and word == "give" and first[1]:
-        return second
     kind = (form, first[0], second[0])
     if form == "either" and word == "left" and first[1]:
         kind = (form, ONE, second[0])
@@ -66,7 +76,7 @@ def joined_kind(word, form, first, second):
         kind = (form, first[0], ONE)
     if TWICE.get(word) == form:
         kind = ("both", TWO, kind)
-    return (kind, joined_has_things(form, first[1], second[1]))
+    return kind
 
 
 def joined_has_things(form, first, second):
@@ -128,7 +138,7 @@ def first_joined(form, first, second):
 
 # Each of these tells None where the form is read evenly.
 def oddly_let(word, program, parts, kinds):
-    if program[0] == "let" and has_things(word, kinds[0]):
+    if program[0] == "let" and is_lost(word, kinds[0]):
         return ("let", first_of(word, kinds[0]), parts[1])
     return None
 
@@ -144,9 +154,9 @@ def oddly_give(word, program, parts, kinds):
 # The word's own part of a pair is the one that is lost.
 def oddly_part(word, program, parts, kinds):
     lost = 0 if word == "first" else 1
-    if program[0] == "pair" and has_things(word, kinds[lost]):
+    if program[0] == "pair" and is_lost(word, kinds[lost]):
         return parts[1 - lost]
-    if program[0] in ("first", "second") and has_things(word, kinds[0][1 + lost]):
+    if program[0] in ("first", "second") and is_lost(word, kinds[0][1 + lost]):
         return first_of(word, kinds[0][1 + lost]) if program[0] == word else parts[0]
     return None
 

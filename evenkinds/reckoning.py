@@ -49,9 +49,10 @@ class Reckoner:
         self.here = None
         while self.here is None and len(self.waiting) > 0:
             waited = self.waiting.pop()
+            bound = waited[1]
             if waited[0] == "name":
-                waited[1].end = end
-                waited[1].steps = self.reckoned - waited[2]
+                bound.end = end
+                bound.steps = self.reckoned - waited[2]
             else:
                 self.reckoned = self.reckoned + 1
-                self.here = behind_form(waited[1], end)
+                self.here = behind_form(bound, end)

@@ -192,7 +192,8 @@ def gift(world, task):
 
 
 def keep(world, task):
-    task[1].gifts[task[2]] = world.done[-1]
+    way = task[1]
+    way.gifts[task[2]] = world.done[-1]
 
 
 def asked_whole(world, task):
