@@ -8,14 +8,14 @@ it is looked at in every way, and put in again. What is asked then stands there 
 
 from evenkinds.book import are_alike, split
 from evenkinds.names import lifted, put_in, taken_out
-from evenkinds.plain import asked_names, expression, looked_at, opened
+from evenkinds.plain import asked_names, expression, opened
 from evenkinds.programs import at_place, kind_of, replaced
 from evenkinds.running import going_on
 
 
 def lead(program, names):
     leader = Leader(program)
-    leader.ahead.append(("ask", (), len(names), asked_names(names), kind_of(program, names), None))
+    leader.ahead.append(("ask", (), len(names), asked_names(names), kind_of(program, names), "finish"))
     while len(leader.ahead) > 0:
         task = leader.ahead.pop()
         TASKS[task[0]](leader, task[1], task[2], task)
@@ -36,14 +36,14 @@ class Leader:
         self.program = replaced(self.program, place, other)
 
 
-# At the place, over so many names, stands a program of the kind, in which the chain is to be asked. Where nothing is
-# left of it, the program is finished, or, given what a way's gifts are asked of, opened.
+# At the place, over so many names, stands a program of the kind, in which the chain is to be asked. The last is what
+# is done with the program where nothing is left of the chain.
 def ask(leader, place, depth, task):
     chain = task[3]
     kind = task[4]
-    gifts_of = task[5]
+    last = task[5]
     if chain is None:
-        leader.ahead.append(last_task(leader, place, depth, kind, gifts_of))
+        leader.ahead.append((last, place, depth, kind))
         return
     asked = chain[0]
     here = expression(asked[0], asked[1], depth)
@@ -54,17 +54,11 @@ def ask(leader, place, depth, task):
         leader.go(place, "split", split(through, here, asked[2]), through)
         for number in (2, 1):
             behind = ((depth, (), asked[2][number]), chain[1])
-            leader.ahead.append(("ask", place + (number,), depth + 1, behind, kind, gifts_of))
+            leader.ahead.append(("ask", place + (number,), depth + 1, behind, kind, last))
     else:
-        leader.ahead.append(("ask", place, depth, opened(asked, chain[1]), kind, gifts_of))
+        leader.ahead.append(("ask", place, depth, opened(asked, chain[1]), kind, last))
         if asked[1] == ():
             put_around(leader, place, depth, asked)
-
-
-def last_task(leader, place, depth, kind, gifts_of):
-    if gifts_of is None:
-        return ("finish", place, depth, kind)
-    return ("open", place, depth, looked_at(gifts_of, ("give", leader.there(place)[2]), kind))
 
 
 # A name that the program doesn't speak of is not opened, and one that is the whole program needs no let.
@@ -72,10 +66,10 @@ def put_around(leader, place, depth, asked):
     here = expression(asked[0], asked[1], depth)
     through = taken_out(leader.there(place), here)
     if through == ("name", 0):
-        leader.ahead.append(("open", place, depth, asked))
+        leader.ahead.append(("open", place, depth, asked[2]))
     elif not are_alike(through, lifted(leader.there(place), 1, 0)):
         leader.go(place, "let", ("let", here, through), None)
-        leader.ahead.extend([("put in", place, depth), ("open", place + (0,), depth, asked)])
+        leader.ahead.extend([("put in", place, depth), ("open", place + (0,), depth, asked[2])])
 
 
 def put_in_again(leader, place, depth, task):
@@ -83,21 +77,19 @@ def put_in_again(leader, place, depth, task):
     leader.go(place, "let", put_in(here[2], here[1]), None)
 
 
-# At the place stands what is asked. An either and a none stay as they are.
+# At the place stands a look at a name. One at an either or a none stays as it is.
 def open_up(leader, place, depth, task):
     here = leader.there(place)
-    asked = task[3]
-    kind = asked[2]
+    kind = task[3]
     if kind[0] == "one":
         leader.go(place, "star", ("star",), None)
     elif kind[0] == "both":
         leader.go(place, "pair", ("pair", ("first", here), ("second", here)), None)
-        leader.ahead.append(("open", place + (1,), depth, looked_at(asked, ("second",), kind[2])))
-        leader.ahead.append(("open", place + (0,), depth, looked_at(asked, ("first",), kind[1])))
+        leader.ahead.extend([("open", place + (1,), depth, kind[2]), ("open", place + (0,), depth, kind[1])])
     elif kind[0] == "way":
         leader.go(place, "way", ("way", kind[1], ("give", lifted(here, 1, 0), ("name", 0))), None)
         chain = ((depth, (), kind[1]), None)
-        leader.ahead.append(("ask", place + (0,), depth + 1, chain, kind[2], asked))
+        leader.ahead.append(("ask", place + (0,), depth + 1, chain, kind[2], "open"))
 
 
 # At the place stands a closed program.
@@ -110,7 +102,7 @@ def finish(leader, place, depth, task):
     here = run_at(leader, place)
     if here[0] == "way":
         chain = ((depth, (), kind[1]), None)
-        leader.ahead.append(("ask", place + (0,), depth + 1, chain, kind[2], None))
+        leader.ahead.append(("ask", place + (0,), depth + 1, chain, kind[2], "finish"))
     elif here[0] == "pair":
         leader.ahead.extend([("finish", place + (1,), depth, kind[2]), ("finish", place + (0,), depth, kind[1])])
     else:
