@@ -17,7 +17,7 @@ def surrounding(one, other, names):
     tables = list(zip(table_in(world, one, names), table_in(world, other, names)))
     best = None
     for row, told in zip(rows(names), tables):
-        looks = part(kind, told[0], told[1])
+        looks = part(kind, world.thing_at(told[0]), world.thing_at(told[1]))
         if looks is not None and (best is None or rank(kind, looks) < rank(kind, best[1])):
             best = (row, looks)
     return best

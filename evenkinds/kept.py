@@ -1,6 +1,7 @@
 """For each word what all others keep, and a step of the word that doesn't: point 24 of the document."""
 
 from evenkinds.odd import odd_kind, odd_program
+from evenkinds.shelf import Shelf
 from evenkinds.tables import table
 
 NONE = ("none",)
@@ -11,9 +12,12 @@ ZERO = ("name", 0)
 RIGHT = ("right", ("one",), ("star",))
 
 
-# The table of the program in the word's odd reading, in which the steps of all other words keep the table.
+# The table of the program in the word's odd reading, in which the steps of all other words keep the table: by number,
+# with what is numbered, so that things that double and double are soon compared.
 def kept(word, program, names):
-    return tuple(table(odd_program(word, program, names), tuple([odd_kind(word, kind) for kind in names])))
+    shelf = Shelf()
+    told = table(odd_program(word, program, names), tuple([odd_kind(word, kind) for kind in names]))
+    return (tuple([shelf.laid(thing) for thing in told]), shelf.all_laid())
 
 
 # Right is never the first thing of two, so what is taken to be the first thing is seen to be another.

@@ -1,5 +1,7 @@
 """Kinds and their things: points 3 and 4 of the document."""
 
+from evenkinds.shelf import are_alike, made_of_parts
+
 
 def count(kind):
     return built_up(kind, {"none": 0, "one": 1}, joined_count)
@@ -10,31 +12,32 @@ def things(kind):
 
 
 def gift(kind, way, thing):
-    return way[1][things(kind[1]).index(thing)]
+    return way[1][place_of(kind[1], thing)]
 
 
-# The kinds of programs may be nested far deeper than 12, so this goes through a list and not by calls in calls.
+# Its number among the things of the kind.
+def place_of(kind, thing):
+    return [are_alike(one, thing) for one in things(kind)].index(True)
+
+
 def built_up(kind, plain, joined):
-    done = []
-    for here in reversed(kinds_within(kind)):
-        if here[0] in plain:
-            done.append(plain[here[0]])
-        else:
-            second = done.pop()
-            first = done.pop()
-            done.append(joined(here[0], first, second))
-    return done[0]
+    def made(here, parts):
+        return plain[here[0]] if here[0] in plain else joined(here[0], parts[0], parts[1])
+
+    return made_of_parts(kind, lambda here: here[1:], made)
 
 
-# The second of two comes ahead of the first: so, walked from behind, the first is done first.
-def kinds_within(kind):
-    order = []
-    ahead = [kind]
-    while len(ahead) > 0:
-        here = ahead.pop()
-        order.append(here)
-        ahead.extend(here[1:])
-    return order
+# A thing with its kind: those that it is made of, with theirs.
+def things_within(held):
+    kind = held[0]
+    thing = held[1]
+    if kind[0] == "one":
+        return []
+    if kind[0] == "both":
+        return [(kind[1], thing[1]), (kind[2], thing[2])]
+    if kind[0] == "way":
+        return [(kind[2], given) for given in thing[1]]
+    return [(kind[1] if thing[0] == "l" else kind[2], thing[1])]
 
 
 def joined_count(word, first, second):

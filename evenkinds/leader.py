@@ -6,11 +6,12 @@ in turn. A name of a one, a both or a way is opened first: in a let around all t
 it is looked at in every way, and put in again. What is asked then stands there word for word, and can be taken out.
 """
 
-from evenkinds.book import are_alike, split
+from evenkinds.book import split
 from evenkinds.names import lifted, put_in, taken_out
 from evenkinds.plain import asked_names, expression, opened
 from evenkinds.programs import at_place, kind_of, replaced
 from evenkinds.running import going_on
+from evenkinds.shelf import are_alike
 
 
 def lead(program, names):

@@ -1,42 +1,45 @@
 """Looks at things, and the first ones that part two things: points 21 and 22 of the document."""
 
-from evenkinds.kinds import gift, things
+from evenkinds.kinds import gift, place_of, things
+from evenkinds.shelf import Shelf
 
 
 # All looks of one length are gone through in their order before any longer ones, so the first that part are found.
+# What was come to before is left out, since that comes first in all looks: so things that double and double are not
+# walked part by part.
 def part(kind, one, other):
-    ahead = [((), kind, one, other)]
+    shelf = Shelf()
+    whole = (shelf.laid(kind), shelf.laid(one), shelf.laid(other))
+    ahead = [((), whole)] if whole[1] != whole[2] else []
+    before = {}
     while len(ahead) > 0:
-        for looks, here, first, second in ahead:
-            if here[0] == "either" and first[0] != second[0]:
+        longer = []
+        for looks, here in ahead:
+            if shelf.word_at(here[0]) == "either" and shelf.word_at(here[1]) != shelf.word_at(here[2]):
                 return list(looks)
-        ahead = looks_longer(ahead)
+            for look, inside in looks_at_both(shelf, here):
+                if inside[1] != inside[2] and inside not in before:
+                    before[inside] = True
+                    longer.append((looks + (look,), inside))
+        ahead = longer
     return None
 
 
-# Alike things don't part. What is the same as the one ahead of it is left out, since that comes first in all looks:
-# so things that double and double are not walked part by part.
-def looks_longer(shorter):
-    longer = []
-    for looks, kind, one, other in shorter:
-        for look, inside, first, second in looks_at_both(kind, one, other):
-            if first != second and (len(longer) == 0 or longer[-1][1:] != (inside, first, second)):
-                longer.append((looks + (look,), inside, first, second))
-    return longer
-
-
-# In their order: each look at both with the kind and the two things that it goes on with.
-def looks_at_both(kind, one, other):
-    if kind[0] == "both":
-        return [(("first",), kind[1], one[1], other[1]), (("second",), kind[2], one[2], other[2])]
-    if kind[0] == "either" and one[0] == "l":
-        return [(("left",), kind[1], one[1], other[1])]
-    if kind[0] == "either":
-        return [(("right",), kind[2], one[1], other[1])]
-    if kind[0] == "way":
-        both = list(zip(one[1], other[1]))
-        return [(("give", thing), kind[2], here[0], here[1]) for thing, here in zip(things(kind[1]), both)]
-    return []
+# A kind and two unlike things of it, on the shelf: in their order each look at both with what it goes on with.
+def looks_at_both(shelf, here):
+    kinds = shelf.within(here[0])
+    one = shelf.within(here[1])
+    other = shelf.within(here[2])
+    word = shelf.word_at(here[0])
+    if word == "both":
+        return [(("first",), (kinds[0], one[0], other[0])), (("second",), (kinds[1], one[1], other[1]))]
+    if word == "either" and shelf.word_at(here[1]) == "l":
+        return [(("left",), (kinds[0], one[0], other[0]))]
+    if word == "either":
+        return [(("right",), (kinds[1], one[0], other[0]))]
+    gifts = list(zip(shelf.within(one[0]), shelf.within(other[0])))
+    asked = things(shelf.tuple_at(kinds[0]))
+    return [(("give", thing), (kinds[1], given[0], given[1])) for thing, given in zip(asked, gifts)]
 
 
 def looked(kind, thing, looks):
@@ -67,7 +70,7 @@ def rank(kind, looks):
     here = kind
     for look in looks:
         if look[0] == "give":
-            numbers.append(things(here[1]).index(look[1]))
+            numbers.append(place_of(here[1], look[1]))
         else:
             numbers.append(0 if look[0] in ("first", "left") else 1)
         here = here[1] if look[0] in ("first", "left") else here[2]

@@ -1,6 +1,7 @@
 """Names moved and programs put in for them: point 9 of the document."""
 
 from evenkinds.programs import inner, names_more, with_inner
+from evenkinds.shelf import made_of_parts
 
 
 def lifted(program, many, least):
@@ -17,7 +18,7 @@ def lifted(program, many, least):
 
 
 def put_in(program, other):
-    wanted = [under for part, under, unchanged in all_parts(program) if part == ("name", under)]
+    wanted = [under for part, under in all_parts(program) if part == ("name", under)]
     copies = copies_under(other, wanted)
 
     def changed(part, under):
@@ -33,7 +34,7 @@ def put_in(program, other):
 # The program C, under one name more, into which the one sought is put in to tell the program: the new name stands
 # wherever the one sought stood.
 def taken_out(program, sought):
-    copies = copies_under(sought, [under for part, under, unchanged in all_parts(program)])
+    copies = copies_under(sought, [under for part, under in all_parts(program)])
 
     def changed(part, under):
         if part == copies[under]:
@@ -54,40 +55,34 @@ def copies_under(program, unders):
     return copies
 
 
-# The program with what each part is changed to in its place; where that is None, its inner ones are gone through.
+# The program with what each part is changed to in its place; where that is None, its inner ones are gone through. What
+# has nothing changed in it stays as it is, so that what stood in several places stays one and the same.
 def with_parts(program, changed):
-    done = []
-    for part, under, other in reversed(parts_under(program, changed)):
-        if other is not None:
-            done.append(other)
-        else:
-            done.append(with_inner(part, taken(done, len(inner(part)))))
-    return done[0]
+    def parts_of(here):
+        return [] if changed(here[0], here[1]) is not None else inner_under(here)
+
+    def made(here, parts):
+        other = changed(here[0], here[1]) if len(parts) == 0 else None
+        if any([part[1] for part in parts]):
+            other = with_inner(here[0], [part[0] for part in parts])
+        return (here[0], False) if other is None else (other, True)
+
+    return made_of_parts((program, 0), parts_of, made)[0]
 
 
-def taken(done, many):
-    parts = []
-    for number in range(many):
-        parts.append(done.pop())
-    parts.reverse()
-    return parts
+# A part with the number of names more that it stands under: its inner ones with theirs.
+def inner_under(here):
+    part = here[0]
+    return [(one, here[1] + names_more(part, number)) for number, one in enumerate(inner(part))]
 
 
-# Each part with the number of names more that it stands under and what it is changed to, ahead of its inner ones, the
-# last of them first: so, walked from behind, the inner ones are done in order and ahead of what they are in. Programs
-# that are told may be far deeper than 60, so this goes through a list and not by calls in calls.
-def parts_under(program, changed):
-    order = []
-    ahead = [(program, 0)]
-    while len(ahead) > 0:
-        here = ahead.pop()
-        part = here[0]
-        other = changed(part, here[1])
-        order.append((part, here[1], other))
-        if other is None:
-            ahead.extend([(one, here[1] + names_more(part, number)) for number, one in enumerate(inner(part))])
-    return order
-
-
+# Each part with the number of names more that it stands under.
 def all_parts(program):
-    return parts_under(program, lambda part, under: None)
+    found = []
+
+    def made(here, parts):
+        found.append(here)
+        return None
+
+    made_of_parts((program, 0), inner_under, made)
+    return found

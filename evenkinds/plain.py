@@ -5,18 +5,28 @@ from the outermost, which stays the same under further names. What is still to b
 chain behind it, or None.
 """
 
-from evenkinds.kinds import things
-from evenkinds.names import taken
+from evenkinds.kinds import things, things_within
+from evenkinds.shelf import made_of_parts, taken
 
 
+# All plain programs of things are closed, so one is the same wherever it stands.
 def plain_thing(kind, thing):
-    return built([("thing", kind, thing)])
+    return made_of_parts((kind, thing), things_within, plain_by_parts)
+
+
+def plain_by_parts(held, parts):
+    kind = held[0]
+    if kind[0] == "one":
+        return ("star",)
+    if kind[0] == "both":
+        return ("pair", parts[0], parts[1])
+    if kind[0] == "way":
+        return ("way", kind[1], asking(kind[1:2], kind[2], parts))
+    return ("left", kind[2], parts[0]) if held[1][0] == "l" else ("right", kind[1], parts[0])
 
 
 def plain_table(names, kind, table):
-    left = list(table)
-    left.reverse()
-    return built([("ask", asked_names(names), len(names), kind, left)])
+    return asking(names, kind, [plain_thing(kind, thing) for thing in table])
 
 
 def asked_names(names):
@@ -51,46 +61,35 @@ def looked_at(asked, look, kind):
     return (asked[0], asked[1] + (look,), kind)
 
 
-# Plain programs may be far deeper than what is handed in, so this goes through lists and not by calls in calls: what
-# is ahead, the last of it first, and the programs that are done.
-def built(ahead):
+# All names are asked, and where the answers are a row, its program stands. Plain programs may be far deeper than what
+# is handed in, so this goes through lists and not by calls in calls: what is ahead, the last of it first, and the
+# programs that are done. From left to right the rows come in order, so programs are taken from the front, which is the
+# end of the list.
+def asking(names, kind, programs):
+    left = list(reversed(programs))
     done = []
+    ahead = [("ask", asked_names(names), len(names))]
     while len(ahead) > 0:
         task = ahead.pop()
         if task[0] == "join":
-            done.append(task[1] + tuple(taken(done, task[2])))
-        elif task[0] == "thing":
-            ahead.extend(tasks_for_thing(task[1], task[2]))
+            done.append(task[1] + tuple(taken(done, 2)))
+            continue
+        asked = next_asked(task[1])
+        depth = task[2]
+        if asked is None:
+            done.append(left.pop())
+            continue
+        here = expression(asked[0][0], asked[0][1], depth)
+        if asked[0][2][0] == "none":
+            done.append(("never", kind, here))
         else:
-            ahead.extend(tasks_for_asked(task[1], task[2], task[3], task[4]))
+            branches = [("ask", ((depth, (), half), asked[1]), depth + 1) for half in asked[0][2][1:]]
+            ahead.extend([("join", ("case", here)), branches[1], branches[0]])
     return done[0]
 
 
-def tasks_for_thing(kind, thing):
-    if kind[0] == "one":
-        return [("join", ("star",), 0)]
-    if kind[0] == "both":
-        return [("join", ("pair",), 2), ("thing", kind[2], thing[2]), ("thing", kind[1], thing[1])]
-    if kind[0] == "way":
-        left = list(thing[1])
-        left.reverse()
-        return [("join", ("way", kind[1]), 1), ("ask", asked_names(kind[1:2]), 1, kind[2], left)]
-    if thing[0] == "l":
-        return [("join", ("left", kind[2]), 1), ("thing", kind[1], thing[1])]
-    return [("join", ("right", kind[1]), 1), ("thing", kind[2], thing[1])]
-
-
-# The rows come from left to right in order, so what is left of the table is taken from its front, which is the end of
-# the list.
-def tasks_for_asked(chain, depth, kind, left):
-    while chain is not None:
-        asked = chain[0]
-        chain = chain[1]
-        word = asked[2][0]
-        if word == "none":
-            return [("join", ("never", kind, expression(asked[0], asked[1], depth)), 0)]
-        if word == "either":
-            branches = [("ask", ((depth, (), half), chain), depth + 1, kind, left) for half in asked[2][1:]]
-            return [("join", ("case", expression(asked[0], asked[1], depth)), 2), branches[1], branches[0]]
-        chain = opened(asked, chain)
-    return [("thing", kind, left.pop())]
+# The chain from the next of a none or an either on.
+def next_asked(chain):
+    while chain is not None and chain[0][2][0] not in ("none", "either"):
+        chain = opened(chain[0], chain[1])
+    return chain

@@ -1,7 +1,7 @@
 """Programs, their inner ones, places and kinds: points 5 to 8 of the document."""
 
 from evenkinds.errors import NoKind
-from evenkinds.shelf import Shelf
+from evenkinds.shelf import Shelf, made_of_parts
 
 # Where the inner ones begin in a program's tuple; they reach to its end.
 INNER_FROM = {
@@ -59,47 +59,103 @@ def replaced(program, place, other):
     return answer
 
 
+# A program as it is gone through: one that stands in several places may be one node that several others hold.
+class Node:
+    def __init__(self, program, inside, number):
+        self.program = program
+        self.inside = inside
+        self.number = number
+        self.holders = 0
+        self.used = None
+
+
+# The nodes made so far give each new one its number.
+def noded(program, nodes):
+    def made(here, inside):
+        node = Node(here, inside, len(nodes))
+        nodes.append(node)
+        for part in inside:
+            part.holders = part.holders + 1
+        return node
+
+    return made_of_parts(program, inner, made)
+
+
+# The numbers of the names that it speaks of, but for its own inner ones'; told only when asked for, since they may be
+# many in each of many parts.
+def used_names(node):
+    ahead = [node]
+    while len(ahead) > 0:
+        here = ahead[-1]
+        waiting = [part for part in here.inside if part.used is None]
+        if len(waiting) > 0:
+            ahead.extend(waiting)
+        else:
+            here.used = used_by_parts(here)
+            ahead.pop()
+    return node.used
+
+
+def used_by_parts(node):
+    if node.program[0] == "name":
+        return (node.program[1],)
+    numbers = []
+    for number, part in enumerate(node.inside):
+        less = names_more(node.program, number)
+        numbers.extend([name - less for name in part.used if name >= less])
+    return tuple(sorted(set(numbers)))
+
+
 # Programs that are told may be far deeper than 60, so the way back up is kept in a list and not by calls in calls.
-# Each part is made of what its inner ones were made to. The name 0 is the last of those known, so that a new one is
-# put on and taken off at the end.
+# Each part is made of what its inner ones were made to, a node that several hold but once where the names that it
+# speaks of are the same. The name 0 is the last of those known, so that a new one is put on and taken off at the end.
 def folded(program, known, named, made):
-    begun = [program]
+    begun = [noded(program, [])]
     answers = [[]]
+    before = {}
     while True:
         here = begun[-1]
-        parts = inner(here)
         number = len(answers[-1])
-        if number < len(parts):
-            if names_more(here, number) == 1:
-                known.append(named(here, answers[-1], number))
-            begun.append(parts[number])
+        key = known_for(here, known) if here.holders > 1 else None
+        if key not in before and number < len(here.inside):
+            if names_more(here.program, number) == 1:
+                known.append(named(here.program, answers[-1], number))
+            begun.append(here.inside[number])
             answers.append([])
             continue
-        answer = made(here, answers[-1], known)
+        answer = before[key] if key in before else made(here.program, answers[-1], known)
+        if key is not None:
+            before[key] = answer
         begun.pop()
         answers.pop()
         if len(begun) == 0:
             return answer
-        if names_more(begun[-1], len(answers[-1])) == 1:
+        if names_more(begun[-1].program, len(answers[-1])) == 1:
             known.pop()
         answers[-1].append(answer)
 
 
+# The node with what is known of the names that it speaks of, where they are there.
+def known_for(node, known):
+    last = len(known) - 1
+    return (node.number, tuple([known[last - name] for name in used_names(node) if name >= 0 and name <= last]))
+
+
 def kind_of(program, names):
     shelf = Shelf()
-    return shelf.kind_at(shelved_kind(program, shelved_names(names, shelf), shelf))
+    return shelf.tuple_at(shelved_kind(program, shelved_names(names, shelf), shelf))
 
 
 # On one shelf, since two kinds that were told apart from one another could be too large to be compared.
 def are_of_one_kind(one, other, names):
     shelf = Shelf()
     known = shelved_names(names, shelf)
-    first = shelved_kind(one, known, shelf)
-    return shelf.are_same(first, shelved_kind(other, known, shelf))
+    return shelved_kind(one, known, shelf) == shelved_kind(other, known, shelf)
 
 
+# A name's kind may be large, and most are never asked for.
 def shelved_names(names, shelf):
-    return [shelf.laid(kind) for kind in reversed(names)]
+    return [shelf.put_by(kind) for kind in reversed(names)]
 
 
 def shelved_kind(program, known, shelf):
@@ -119,7 +175,7 @@ def kind_by_parts(program, kinds, known, shelf):
 
 def new_name(program, kinds, number, shelf):
     if program[0] == "way":
-        return shelf.laid(program[1])
+        return shelf.laid_kind(program[1])
     if program[0] == "let":
         return kinds[0]
     return halves_of("either", kinds[0], shelf)[number - 1]
@@ -135,11 +191,11 @@ def kind_of_name(program, kinds, known, shelf):
     number = program[1]
     if number < 0 or number >= len(known):
         raise NoKind()
-    return known[len(known) - 1 - number]
+    return shelf.taken_up(known[len(known) - 1 - number])
 
 
 def kind_of_star(program, kinds, known, shelf):
-    return shelf.laid(("one",))
+    return shelf.numbered(("one",), ())
 
 
 def kind_of_pair(program, kinds, known, shelf):
@@ -155,26 +211,26 @@ def kind_of_second(program, kinds, known, shelf):
 
 
 def kind_of_left(program, kinds, known, shelf):
-    return shelf.built("either", kinds[0], shelf.laid(program[1]))
+    return shelf.built("either", kinds[0], shelf.laid_kind(program[1]))
 
 
 def kind_of_right(program, kinds, known, shelf):
-    return shelf.built("either", shelf.laid(program[1]), kinds[0])
+    return shelf.built("either", shelf.laid_kind(program[1]), kinds[0])
 
 
 def kind_of_case(program, kinds, known, shelf):
-    if not shelf.are_same(kinds[1], kinds[2]):
+    if kinds[1] != kinds[2]:
         raise NoKind()
     return kinds[1]
 
 
 def kind_of_way(program, kinds, known, shelf):
-    return shelf.built("way", shelf.laid(program[1]), kinds[0])
+    return shelf.built("way", shelf.laid_kind(program[1]), kinds[0])
 
 
 def kind_of_give(program, kinds, known, shelf):
     ends = halves_of("way", kinds[0], shelf)
-    if not shelf.are_same(ends[0], kinds[1]):
+    if ends[0] != kinds[1]:
         raise NoKind()
     return ends[1]
 
@@ -186,7 +242,7 @@ def kind_of_let(program, kinds, known, shelf):
 def kind_of_never(program, kinds, known, shelf):
     if shelf.word_at(kinds[0]) != "none":
         raise NoKind()
-    return shelf.laid(program[1])
+    return shelf.laid_kind(program[1])
 
 
 BY_WORD = {

@@ -59,12 +59,13 @@ def with_first(program, first):
 
 
 # A program with what stands for the first of its names; all others are names of the program that is run. Once they
-# are known: all of it put together, and what it comes to in how many steps.
+# are known: all of it put together, with copies of that under further names, and what it comes to in how many steps.
 class Bound:
     def __init__(self, program, around):
         self.program = program
         self.around = around
         self.together = None
+        self.copies = {}
         self.has_names = False
         self.end = None
         self.steps = 0
@@ -140,7 +141,7 @@ def put_together(bound):
 
 def names_bound(bound):
     many = len(bound.around)
-    numbers = [part[1] - under for part, under, unchanged in all_parts(bound.program) if part[0] == "name"]
+    numbers = [part[1] - under for part, under in all_parts(bound.program) if part[0] == "name"]
     return [bound.around[number] for number in sorted(set(numbers)) if 0 <= number and number < many]
 
 
@@ -160,10 +161,14 @@ def fill(bound):
 
 # A closed program is the same under further names, and may be too large to be walked each time.
 def standing(bound, under):
-    return lifted(bound.together, under, 0) if bound.has_names else bound.together
+    if not bound.has_names:
+        return bound.together
+    if under not in bound.copies:
+        bound.copies[under] = lifted(bound.together, under, 0)
+    return bound.copies[under]
 
 
 def speaks_of_others(bound):
     many = len(bound.around)
     parts = all_parts(bound.program)
-    return any([part[0] == "name" and part[1] - under >= many for part, under, unchanged in parts])
+    return any([part[0] == "name" and part[1] - under >= many for part, under in parts])

@@ -5,9 +5,13 @@ from evenkinds.worlds import World
 
 
 def rows(names):
+    return rows_of([things(kind) for kind in names])
+
+
+def rows_of(choices):
     answer = [()]
-    for kind in names:
-        answer = longer_rows(answer, things(kind))
+    for choice in choices:
+        answer = longer_rows(answer, choice)
     return answer
 
 
@@ -19,9 +23,11 @@ def longer_rows(shorter, choices):
 
 
 def table(program, names):
-    return table_in(World(), program, names)
+    world = World()
+    return [world.thing_at(number) for number in table_in(world, program, names)]
 
 
-# In one world for several tables: what is the same in them is then one and the same, and soon compared.
+# By number: in one world for several tables, what is the same in them has the same number.
 def table_in(world, program, names):
-    return [world.told_at(program, row, names) for row in rows(names)]
+    node = world.node_for(program)
+    return [world.told_at(node, row) for row in rows_of([world.held_things(kind) for kind in names])]

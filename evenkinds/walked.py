@@ -1,49 +1,49 @@
 """Rows of steps walked from a program: points 13 and 14 of the document."""
 
-from evenkinds.book import are_alike, is_step
+from evenkinds.book import is_step_over
 from evenkinds.errors import NoKind, NoStep
-from evenkinds.programs import at_place, inner, kind_of, names_more, replaced
+from evenkinds.programs import at_place, inner, names_more, new_name, replaced, shelved_kind, shelved_names
+from evenkinds.shelf import Shelf, are_alike
 
 
 def names_at(program, place, names):
+    shelf = Shelf()
+    known = known_at(program, place, shelved_names(names, shelf), shelf)
+    return tuple([shelf.tuple_at(kind) for kind in reversed(known[len(names):])]) + names
+
+
+# The kinds of the names at a place, on the shelf, the name 0 last, by those of the names at the whole.
+def known_at(program, place, names, shelf):
     here = program
-    known = names
+    known = list(names)
     for number in place:
         if names_more(here, number) == 1:
-            known = (new_name(here, number, known),) + known
+            kinds = [] if here[0] == "way" else [shelved_kind(here[1], list(known), shelf)]
+            known.append(new_name(here, kinds, number, shelf))
         here = inner(here)[number]
     return known
 
 
-def new_name(program, number, names):
-    if program[0] == "way":
-        return program[1]
-    kind = kind_of(program[1], names)
-    if program[0] == "let":
-        return kind
-    if kind[0] != "either":
-        raise NoKind()
-    return kind[number]
-
-
 def walked(program, names, row):
+    shelf = Shelf()
+    known = shelved_names(names, shelf)
     here = program
     for number, step in enumerate(row):
-        if not leads_on(here, names, step):
+        if not leads_on(here, known, shelf, step):
             raise NoStep(number)
         here = replaced(here, step[0], step[3])
     return here
 
 
-def leads_on(program, names, step):
+def leads_on(program, names, shelf, step):
     there = at_place(program, step[0])
     if there is None or not are_alike(there, step[2]):
         return False
     try:
-        known = names_at(program, step[0], names)
+        known = known_at(program, step[0], names, shelf)
     except NoKind:
         return False
-    return is_step(step[1], step[2], step[3], known, step[4])
+    return is_step_over(known, shelf, step[1:])
 
 
 def reverse(row):

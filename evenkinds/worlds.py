@@ -6,19 +6,23 @@ never walked part by part. All goes through a list of what is still to be done, 
 far deeper than 60.
 """
 
-from evenkinds.kinds import things
-from evenkinds.names import taken
+from evenkinds.kinds import things, things_within
+from evenkinds.programs import noded, used_names
+from evenkinds.shelf import Shelf, made_of_parts, taken
 
 SIGNS = {"pair": "p", "left": "l", "right": "r"}
 
 
 def told(program, row, names):
-    return World().told_at(program, row, names)
+    world = World()
+    held = [world.given(kind, thing) for kind, thing in zip(names, row)]
+    return world.thing_at(world.told_at(world.node_for(program), held))
 
 
-# What a program comes to: its number is known once all of it is.
+# What a program comes to, with a mark of its own: its number is known once all of it is.
 class Held:
-    def __init__(self, word, parts):
+    def __init__(self, mark, word, parts):
+        self.mark = mark
         self.word = word
         self.parts = parts
         self.number = None
@@ -26,8 +30,8 @@ class Held:
 
 # A way keeps its program and the things around it, and for each thing's number what it has given.
 class HeldWay(Held):
-    def __init__(self, asked, body, around):
-        Held.__init__(self, "way", ())
+    def __init__(self, mark, asked, body, around):
+        Held.__init__(self, mark, "way", ())
         self.asked = asked
         self.body = body
         self.around = around
@@ -38,17 +42,35 @@ class World:
     def __init__(self):
         self.numbers = {}
         self.numbered_things = []
+        self.shelf = Shelf()
         self.known = {}
+        self.nodes = []
+        self.marks = 0
+        self.seen = {}
         self.ahead = []
         self.done = []
 
-    def told_at(self, program, row, names):
-        around = tuple([self.given(kind, thing) for kind, thing in zip(names, row)])
-        self.ahead.extend([("asked whole",), ("see", program, around)])
+    def node_for(self, program):
+        return noded(program, self.nodes)
+
+    # The number of what is told, over what is held for the names.
+    def told_at(self, node, held):
+        self.ahead.extend([("asked whole",), ("see", node, tuple(held))])
         while len(self.ahead) > 0:
             task = self.ahead.pop()
             TASKS[task[0]](self, task)
-        return self.numbered_things[self.done.pop().number]
+        return self.done.pop().number
+
+    def thing_at(self, number):
+        return self.numbered_things[number]
+
+    def held(self, word, parts):
+        self.marks = self.marks + 1
+        return Held(self.marks, word, parts)
+
+    def held_way(self, asked, body, around):
+        self.marks = self.marks + 1
+        return HeldWay(self.marks, asked, body, around)
 
     def number_for(self, word, numbers):
         key = (word, numbers)
@@ -58,32 +80,35 @@ class World:
         return self.numbers[key]
 
     def given(self, kind, thing):
-        if kind[0] == "way":
-            return self.given_way(kind, thing)
-        held = Held("star", ())
-        if kind[0] == "both":
-            held = Held("pair", (self.given(kind[1], thing[1]), self.given(kind[2], thing[2])))
-        elif kind[0] == "either" and thing[0] == "l":
-            held = Held("left", (self.given(kind[1], thing[1]),))
-        elif kind[0] == "either":
-            held = Held("right", (self.given(kind[2], thing[1]),))
-        held.number = self.number_for(held.word, tuple([part.number for part in held.parts]))
-        return held
+        def made(here, parts):
+            if here[0][0] == "way":
+                return self.given_way(here[0], parts)
+            held = self.held(form_of(here[0], here[1]), tuple(parts))
+            held.number = self.number_for(held.word, tuple([part.number for part in parts]))
+            return held
 
-    def given_way(self, kind, thing):
-        held = HeldWay(kind[1], None, None)
-        numbers = []
-        for asked, gift in zip(self.held_things(kind[1]), thing[1]):
-            answer = self.given(kind[2], gift)
+        return made_of_parts((kind, thing), things_within, made)
+
+    def given_way(self, kind, parts):
+        held = self.held_way(kind[1], None, None)
+        for asked, answer in zip(self.held_things(kind[1]), parts):
             held.gifts[asked.number] = answer
-            numbers.append(answer.number)
-        held.number = self.number_for("way", tuple(numbers))
+        held.number = self.number_for("way", tuple([part.number for part in parts]))
         return held
 
     def held_things(self, kind):
-        if kind not in self.known:
-            self.known[kind] = [self.given(kind, thing) for thing in things(kind)]
-        return self.known[kind]
+        number = self.shelf.laid_kind(kind)
+        if number not in self.known:
+            self.known[number] = [self.given(kind, thing) for thing in things(kind)]
+        return self.known[number]
+
+
+def form_of(kind, thing):
+    if kind[0] == "one":
+        return "star"
+    if kind[0] == "both":
+        return "pair"
+    return "left" if thing[0] == "l" else "right"
 
 
 def thing_of(word, parts):
@@ -94,52 +119,71 @@ def thing_of(word, parts):
     return (SIGNS[word],) + parts
 
 
+# What several hold, and a way, which may be asked for many things, is seen but once where the names that it speaks of
+# stand for the same.
 def see(world, task):
-    SEEN[task[1][0]](world, task[1], task[2])
+    node = task[1]
+    around = task[2]
+    if len(node.inside) > 0 and (node.holders > 1 or node.program[0] == "way"):
+        key = (node.number, tuple([sign_of(around[name]) for name in used_names(node)]))
+        if key in world.seen:
+            world.done.append(world.seen[key])
+            return
+        world.ahead.append(("keep seen", key))
+    SEEN[node.program[0]](world, node, around)
 
 
-def see_name(world, program, around):
-    world.done.append(around[program[1]])
+# What has the same number is the same.
+def sign_of(held):
+    return held.number if held.number is not None else -held.mark
 
 
-def see_star(world, program, around):
-    world.done.append(Held("star", ()))
+def keep_seen(world, task):
+    world.seen[task[1]] = world.done[-1]
 
 
-def see_pair(world, program, around):
-    world.ahead.extend([("join", "pair", 2), ("see", program[2], around), ("see", program[1], around)])
+def see_name(world, node, around):
+    world.done.append(around[node.program[1]])
 
 
-def see_first(world, program, around):
-    world.ahead.extend([("part", 0), ("see", program[1], around)])
+def see_star(world, node, around):
+    world.done.append(world.held("star", ()))
 
 
-def see_second(world, program, around):
-    world.ahead.extend([("part", 1), ("see", program[1], around)])
+def see_pair(world, node, around):
+    world.ahead.extend([("join", "pair", 2), ("see", node.inside[1], around), ("see", node.inside[0], around)])
 
 
-def see_side(world, program, around):
-    world.ahead.extend([("join", program[0], 1), ("see", program[2], around)])
+def see_first(world, node, around):
+    world.ahead.extend([("part", 0), ("see", node.inside[0], around)])
 
 
-def see_case(world, program, around):
-    world.ahead.extend([("choose", program, around), ("see", program[1], around)])
+def see_second(world, node, around):
+    world.ahead.extend([("part", 1), ("see", node.inside[0], around)])
 
 
-def see_way(world, program, around):
-    world.done.append(HeldWay(program[1], program[2], around))
+def see_side(world, node, around):
+    world.ahead.extend([("join", node.program[0], 1), ("see", node.inside[0], around)])
 
 
-def see_give(world, program, around):
-    world.ahead.extend([("give",), ("see", program[2], around), ("see", program[1], around)])
+def see_case(world, node, around):
+    world.ahead.extend([("choose", node, around), ("see", node.inside[0], around)])
 
 
-def see_let(world, program, around):
-    world.ahead.extend([("under", program[2], around), ("see", program[1], around)])
+def see_way(world, node, around):
+    world.done.append(world.held_way(node.program[1], node.inside[0], around))
 
 
-def see_never(world, program, around):
-    world.ahead.append(("see", program[2], around))
+def see_give(world, node, around):
+    world.ahead.extend([("give",), ("see", node.inside[1], around), ("see", node.inside[0], around)])
+
+
+def see_let(world, node, around):
+    world.ahead.extend([("under", node.inside[1], around), ("see", node.inside[0], around)])
+
+
+def see_never(world, node, around):
+    world.ahead.append(("see", node.inside[0], around))
 
 
 SEEN = {
@@ -159,7 +203,7 @@ SEEN = {
 
 
 def join(world, task):
-    world.done.append(Held(task[1], tuple(taken(world.done, task[2]))))
+    world.done.append(world.held(task[1], tuple(taken(world.done, task[2]))))
 
 
 def part_of(world, task):
@@ -168,12 +212,16 @@ def part_of(world, task):
 
 def choose(world, task):
     held = world.done.pop()
-    branch = task[1][2] if held.word == "left" else task[1][3]
-    world.ahead.append(("see", branch, (held.parts[0],) + task[2]))
+    branch = task[1].inside[1] if held.word == "left" else task[1].inside[2]
+    see_under(world, branch, held.parts[0], task[2])
 
 
 def under(world, task):
-    world.ahead.append(("see", task[1], (world.done.pop(),) + task[2]))
+    see_under(world, task[1], world.done.pop(), task[2])
+
+
+def see_under(world, node, held, around):
+    world.ahead.append(("see", node, (held,) + around))
 
 
 def give(world, task):
@@ -188,7 +236,8 @@ def gift(world, task):
     if argument.number in way.gifts:
         world.done.append(way.gifts[argument.number])
     else:
-        world.ahead.extend([("keep", way, argument.number), ("see", way.body, (argument,) + way.around)])
+        world.ahead.append(("keep", way, argument.number))
+        see_under(world, way.body, argument, way.around)
 
 
 def keep(world, task):
@@ -226,6 +275,7 @@ def set_number(world, task):
 
 TASKS = {
     "see": see,
+    "keep seen": keep_seen,
     "join": join,
     "part": part_of,
     "choose": choose,

@@ -2,6 +2,7 @@
 
 import itertools
 import random
+import time
 
 from evenkinds.names import lifted, put_in
 
@@ -551,3 +552,20 @@ def surrounding_again(one, other, names):
                 if part_by(kind, first, second, looks):
                     return row, looks
     return None
+
+
+DOUBLINGS = (4, 12, 16, 20, 22, 24, 28, 40, 57)
+
+
+def each_soon(test, function, many=DOUBLINGS):
+    """Asked for more and more doublings; fails where it takes long, which is ahead of where it would never end."""
+    for number in many:
+        begun = time.monotonic()
+        function(number)
+        taken = time.monotonic() - begun
+        test.assertLess(taken, 5, f"asked with {number}")
+
+
+def doubled(last, many, base=("star",)):
+    """Lets that each pair their name with itself around the last, whose name 0 then has a kind of very many parts."""
+    return ("let", base, chain(many, lambda one: ("let", ("pair", name(0), name(0)), one), last))
