@@ -4,11 +4,13 @@ All names are asked as the plain program asks them, so that in the end a closed 
 plain programs of the row's things in the names' places; that is run, and what stands within what it comes to is led
 in turn. A name of a one, a both or a way is opened first: in a let around all that speaks of it, it is led to where
 it is looked at in every way, and put in again. What is asked then stands there word for word, and can be taken out.
+A program of a kind that asks nothing is led to its plain program first: that speaks of no names, and is not led again
+for each row.
 """
 
 from evenkinds.book import split
 from evenkinds.names import lifted, put_in, taken_out
-from evenkinds.plain import asked_names, expression, opened
+from evenkinds.plain import asked_names, asks_nothing, expression, opened, plain_of_one
 from evenkinds.programs import at_place, kind_of, replaced
 from evenkinds.running import going_on
 from evenkinds.shelf import are_alike
@@ -16,7 +18,7 @@ from evenkinds.shelf import are_alike
 
 def lead(program, names):
     leader = Leader(program)
-    leader.ahead.append(("ask", (), len(names), asked_names(names), kind_of(program, names), "finish"))
+    begin(leader, (), len(names), asked_names(names), kind_of(program, names), "finish")
     while len(leader.ahead) > 0:
         task = leader.ahead.pop()
         TASKS[task[0]](leader, task[1], task[2], task)
@@ -35,6 +37,13 @@ class Leader:
     def go(self, place, word, other, through):
         self.row.append((place, word, self.there(place), other, through))
         self.program = replaced(self.program, place, other)
+
+
+def begin(leader, place, depth, chain, kind, last):
+    if asks_nothing(kind):
+        leader.ahead.extend([("ask", place, depth, chain, kind, "leave"), ("settle", place, depth, kind)])
+    else:
+        leader.ahead.append(("ask", place, depth, chain, kind, last))
 
 
 # At the place, over so many names, stands a program of the kind, in which the chain is to be asked. The last is what
@@ -82,8 +91,8 @@ def put_in_again(leader, place, depth, task):
 def open_up(leader, place, depth, task):
     here = leader.there(place)
     kind = task[3]
-    if kind[0] == "one":
-        leader.go(place, "star", ("star",), None)
+    if asks_nothing(kind):
+        leader.ahead.append(("settle", place, depth, kind))
     elif kind[0] == "both":
         leader.go(place, "pair", ("pair", ("first", here), ("second", here)), None)
         leader.ahead.extend([("open", place + (1,), depth, kind[2]), ("open", place + (0,), depth, kind[1])])
@@ -93,17 +102,38 @@ def open_up(leader, place, depth, task):
         leader.ahead.append(("ask", place + (0,), depth + 1, chain, kind[2], "open"))
 
 
+# At the place stands any program of a kind that asks nothing.
+def settle(leader, place, depth, task):
+    here = leader.there(place)
+    kind = task[3]
+    if are_alike(here, plain_of_one(kind)):
+        return
+    if kind[0] == "one":
+        leader.go(place, "star", ("star",), None)
+    elif kind[0] == "both":
+        if here[0] != "pair":
+            leader.go(place, "pair", ("pair", ("first", here), ("second", here)), None)
+        leader.ahead.extend([("settle", place + (1,), depth, kind[2]), ("settle", place + (0,), depth, kind[1])])
+    else:
+        if here[0] != "way":
+            leader.go(place, "way", ("way", kind[1], ("give", lifted(here, 1, 0), ("name", 0))), None)
+        begin(leader, place + (0,), depth + 1, ((depth, (), kind[1]), None), kind[2], "leave")
+
+
+# At the place stands a plain program.
+def leave(leader, place, depth, task):
+    pass
+
+
 # At the place stands a closed program.
 def finish(leader, place, depth, task):
     kind = task[3]
-    if kind[0] == "one":
-        if leader.there(place) != ("star",):
-            leader.go(place, "star", ("star",), None)
+    if asks_nothing(kind):
+        leader.ahead.append(("settle", place, depth, kind))
         return
     here = run_at(leader, place)
     if here[0] == "way":
-        chain = ((depth, (), kind[1]), None)
-        leader.ahead.append(("ask", place + (0,), depth + 1, chain, kind[2], "finish"))
+        begin(leader, place + (0,), depth + 1, ((depth, (), kind[1]), None), kind[2], "finish")
     elif here[0] == "pair":
         leader.ahead.extend([("finish", place + (1,), depth, kind[2]), ("finish", place + (0,), depth, kind[1])])
     else:
@@ -122,5 +152,7 @@ TASKS = {
     "ask": ask,
     "put in": put_in_again,
     "open": open_up,
+    "settle": settle,
+    "leave": leave,
     "finish": finish,
 }

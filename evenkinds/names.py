@@ -18,14 +18,13 @@ def lifted(program, many, least):
 
 
 def put_in(program, other):
-    wanted = [under for part, under in all_parts(program) if part == ("name", under)]
-    copies = copies_under(other, wanted)
+    copies = {}
 
     def changed(part, under):
         if part[0] != "name" or part[1] < under:
             return None
         if part[1] == under:
-            return copies[under]
+            return copy_under(copies, other, under)
         return ("name", part[1] - 1)
 
     return with_parts(program, changed)
@@ -34,10 +33,10 @@ def put_in(program, other):
 # The program C, under one name more, into which the one sought is put in to tell the program: the new name stands
 # wherever the one sought stood.
 def taken_out(program, sought):
-    copies = copies_under(sought, [under for part, under in all_parts(program)])
+    copies = {}
 
     def changed(part, under):
-        if part == copies[under]:
+        if part == copy_under(copies, sought, under):
             return ("name", under)
         if part[0] == "name" and part[1] >= under:
             return ("name", part[1] + 1)
@@ -47,12 +46,10 @@ def taken_out(program, sought):
 
 
 # Lifted once for each number of names that it comes to stand under, not once for each place.
-def copies_under(program, unders):
-    copies = {}
-    for under in unders:
-        if under not in copies:
-            copies[under] = lifted(program, under, 0)
-    return copies
+def copy_under(copies, program, under):
+    if under not in copies:
+        copies[under] = lifted(program, under, 0)
+    return copies[under]
 
 
 # The program with what each part is changed to in its place; where that is None, its inner ones are gone through. What

@@ -18,7 +18,7 @@ Where what would be left out has no things, a form is read as it stands.
 
 from evenkinds.names import lifted
 from evenkinds.plain import plain_table
-from evenkinds.programs import folded, kind_by_parts, new_name, shelved_names
+from evenkinds.programs import folded, kind_by_parts, new_name, noded, shelved_names
 from evenkinds.shelf import Shelf
 
 NONE = ("none",)
@@ -47,10 +47,10 @@ def odd_program(word, program, names):
 
     def made(here, answers, known):
         kinds = [answer[0] for answer in answers]
-        other = read_form(reader, here, [answer[1] for answer in answers], kinds)
-        return (kind_by_parts(here, kinds, known, shelf), other)
+        other = read_form(reader, here.program, [answer[1] for answer in answers], kinds)
+        return (kind_by_parts(here.program, kinds, known, shelf), other)
 
-    return folded(program, shelved_names(names, shelf), named, made)[1]
+    return folded(noded(program, []), shelved_names(names, shelf), named, made)[1]
 
 
 # Kinds are told by their numbers on the shelf, and what they are read as by numbers on another: so those that double

@@ -5,7 +5,7 @@ from the outermost, which stays the same under further names. What is still to b
 chain behind it, or None.
 """
 
-from evenkinds.kinds import things, things_within
+from evenkinds.kinds import built_up, count, things, things_within
 from evenkinds.shelf import made_of_parts, taken
 
 
@@ -44,17 +44,48 @@ def expression(level, looks, depth):
     return program
 
 
-# What is asked of a one, a both or a way, ahead of what is asked behind it.
+# What is asked of a one, a both or a way, ahead of what is asked behind it. What asks nothing is left out: there may be
+# very many gives of ways, where in the end nothing is asked.
 def opened(asked, chain):
     kind = asked[2]
     parts = []
     if kind[0] == "both":
         parts = [looked_at(asked, ("first",), kind[1]), looked_at(asked, ("second",), kind[2])]
-    if kind[0] == "way":
+    if kind[0] == "way" and not asks_nothing(kind):
         parts = [looked_at(asked, ("give", plain_thing(kind[1], thing)), kind[2]) for thing in things(kind[1])]
     for part in reversed(parts):
-        chain = (part, chain)
+        if not asks_nothing(part[2]):
+            chain = (part, chain)
     return chain
+
+
+# Where nothing is asked of an expression of the kind, the kind has one thing.
+def asks_nothing(kind):
+    return not built_up(kind, {"none": (True, False), "one": (False, True)}, joined_asking)[0]
+
+
+# The plain program of the one thing of a kind that asks nothing; None for another kind.
+def plain_of_one(kind):
+    return made_of_parts(kind, lambda here: here[1:], one_by_parts)
+
+
+def one_by_parts(kind, parts):
+    if kind[0] == "one":
+        return ("star",)
+    if kind[0] == "both" and parts[0] is not None and parts[1] is not None:
+        return ("pair", parts[0], parts[1])
+    if kind[0] == "way" and (parts[1] is not None or count(kind[1]) == 0):
+        return ("way", kind[1], asking(kind[1:2], kind[2], [parts[1]] * count(kind[1])))
+    return None
+
+
+# Whether something is asked, and whether there are things.
+def joined_asking(word, first, second):
+    if word == "either":
+        return (True, first[1] or second[1])
+    if word == "both":
+        return (first[0] or second[0], first[1] and second[1])
+    return (first[1] and second[0], second[1] or not first[1])
 
 
 def looked_at(asked, look, kind):

@@ -59,14 +59,18 @@ def replaced(program, place, other):
     return answer
 
 
-# A program as it is gone through: one that stands in several places may be one node that several others hold.
+# A program as it is gone through: one that stands in several places may be one node that several others hold. Ways is
+# how many ways lie within one another in it. Its kind's number is known once it was asked for, and is below nought
+# where it has several in several places.
 class Node:
     def __init__(self, program, inside, number):
         self.program = program
         self.inside = inside
         self.number = number
         self.holders = 0
+        self.ways = 0
         self.used = None
+        self.kind = None
 
 
 # The nodes made so far give each new one its number.
@@ -76,6 +80,9 @@ def noded(program, nodes):
         nodes.append(node)
         for part in inside:
             part.holders = part.holders + 1
+            node.ways = max(node.ways, part.ways)
+        if here[0] == "way":
+            node.ways = node.ways + 1
         return node
 
     return made_of_parts(program, inner, made)
@@ -84,7 +91,7 @@ def noded(program, nodes):
 # The numbers of the names that it speaks of, but for its own inner ones'; told only when asked for, since they may be
 # many in each of many parts.
 def used_names(node):
-    ahead = [node]
+    ahead = [node] if node.used is None else []
     while len(ahead) > 0:
         here = ahead[-1]
         waiting = [part for part in here.inside if part.used is None]
@@ -109,8 +116,8 @@ def used_by_parts(node):
 # Programs that are told may be far deeper than 60, so the way back up is kept in a list and not by calls in calls.
 # Each part is made of what its inner ones were made to, a node that several hold but once where the names that it
 # speaks of are the same. The name 0 is the last of those known, so that a new one is put on and taken off at the end.
-def folded(program, known, named, made):
-    begun = [noded(program, [])]
+def folded(node, known, named, made):
+    begun = [node]
     answers = [[]]
     before = {}
     while True:
@@ -123,7 +130,7 @@ def folded(program, known, named, made):
             begun.append(here.inside[number])
             answers.append([])
             continue
-        answer = before[key] if key in before else made(here.program, answers[-1], known)
+        answer = before[key] if key in before else made(here, answers[-1], known)
         if key is not None:
             before[key] = answer
         begun.pop()
@@ -159,13 +166,19 @@ def shelved_names(names, shelf):
 
 
 def shelved_kind(program, known, shelf):
+    return kind_of_node(noded(program, []), known, shelf)
+
+
+def kind_of_node(node, known, shelf):
     def named(here, kinds, number):
         return new_name(here, kinds, number, shelf)
 
     def made(here, kinds, known_here):
-        return kind_by_parts(here, kinds, known_here, shelf)
+        kind = kind_by_parts(here.program, kinds, known_here, shelf)
+        here.kind = kind if here.kind is None or here.kind == kind else -1
+        return kind
 
-    return folded(program, known, named, made)
+    return folded(node, known, named, made)
 
 
 # The kind of a program, on the shelf, by those of its inner ones.

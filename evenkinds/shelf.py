@@ -6,7 +6,7 @@ stands again and again, and here it is walked but once. Nothing goes by calls in
 """
 
 # Tuples of fewer parts are walked sooner than their parts are sought among those met.
-FEW = 4000
+FEW = 2000
 
 # Python compares tuples by calls in calls, so deeper ones are not sought.
 DEEPEST = 300

@@ -29,5 +29,5 @@ def table(program, names):
 
 # By number: in one world for several tables, what is the same in them has the same number.
 def table_in(world, program, names):
-    node = world.node_for(program)
+    node = world.node_for(program, names)
     return [world.told_at(node, row) for row in rows_of([world.held_things(kind) for kind in names])]

@@ -7,7 +7,7 @@ far deeper than 60.
 """
 
 from evenkinds.kinds import things, things_within
-from evenkinds.programs import noded, used_names
+from evenkinds.programs import kind_of_node, noded, shelved_names, used_names
 from evenkinds.shelf import Shelf, made_of_parts, taken
 
 SIGNS = {"pair": "p", "left": "l", "right": "r"}
@@ -16,7 +16,7 @@ SIGNS = {"pair": "p", "left": "l", "right": "r"}
 def told(program, row, names):
     world = World()
     held = [world.given(kind, thing) for kind, thing in zip(names, row)]
-    return world.thing_at(world.told_at(world.node_for(program), held))
+    return world.thing_at(world.told_at(world.node_for(program, names), held))
 
 
 # What a program comes to, with a mark of its own: its number is known once all of it is.
@@ -47,11 +47,16 @@ class World:
         self.nodes = []
         self.marks = 0
         self.seen = {}
+        self.soles = []
         self.ahead = []
         self.done = []
 
-    def node_for(self, program):
-        return noded(program, self.nodes)
+    # Kinds are wanted only where ways lie within ways: told whole, such a one is asked for very many rows.
+    def node_for(self, program, names):
+        node = noded(program, self.nodes)
+        if node.ways > 2:
+            kind_of_node(node, shelved_names(names, self.shelf), self.shelf)
+        return node
 
     # The number of what is told, over what is held for the names.
     def told_at(self, node, held):
@@ -83,11 +88,14 @@ class World:
         def made(here, parts):
             if here[0][0] == "way":
                 return self.given_way(here[0], parts)
-            held = self.held(form_of(here[0], here[1]), tuple(parts))
-            held.number = self.number_for(held.word, tuple([part.number for part in parts]))
-            return held
+            return self.whole_held(form_of(here[0], here[1]), tuple(parts))
 
         return made_of_parts((kind, thing), things_within, made)
+
+    def whole_held(self, word, parts):
+        held = self.held(word, parts)
+        held.number = self.number_for(word, tuple([part.number for part in parts]))
+        return held
 
     def given_way(self, kind, parts):
         held = self.held_way(kind[1], None, None)
@@ -101,6 +109,44 @@ class World:
         if number not in self.known:
             self.known[number] = [self.given(kind, thing) for thing in things(kind)]
         return self.known[number]
+
+
+    # The only thing of a kind that has just one, by the kind's number; None where it has others, or isn't known.
+    def sole(self, kind):
+        if kind is None or kind < 0:
+            return None
+        while len(self.soles) <= kind:
+            self.soles.append(self.sole_by_halves(len(self.soles)))
+        return self.soles[kind][1]
+
+    # With how many things it has: none, one, or more, which is told as two.
+    def sole_by_halves(self, kind):
+        word = self.shelf.word_at(kind)
+        halves = [self.soles[half] for half in self.shelf.within(kind)]
+        many = none_one_or_more(word, [half[0] for half in halves])
+        held = [half[1] for half in halves]
+        if many != 1:
+            return (many, None)
+        if word == "one":
+            return (1, self.whole_held("star", ()))
+        if word == "both":
+            return (1, self.whole_held("pair", tuple(held)))
+        if word == "either" and halves[0][0] == 1:
+            return (1, self.whole_held("left", (held[0],)))
+        if word == "either":
+            return (1, self.whole_held("right", (held[1],)))
+        way = self.shelf.tuple_at(kind)
+        return (1, self.given_way(way, [held[1]] * len(self.held_things(way[1]))))
+
+
+def none_one_or_more(word, halves):
+    if word == "either":
+        return min(2, halves[0] + halves[1])
+    if word == "both":
+        return min(2, halves[0] * halves[1])
+    if word == "way":
+        return 1 if halves[0] == 0 else halves[1]
+    return 1 if word == "one" else 0
 
 
 def form_of(kind, thing):
@@ -171,7 +217,8 @@ def see_case(world, node, around):
 
 
 def see_way(world, node, around):
-    world.done.append(world.held_way(node.program[1], node.inside[0], around))
+    sole = world.sole(node.kind)
+    world.done.append(world.held_way(node.program[1], node.inside[0], around) if sole is None else sole)
 
 
 def see_give(world, node, around):

@@ -563,7 +563,7 @@ def each_soon(test, function, many=DOUBLINGS):
         begun = time.monotonic()
         function(number)
         taken = time.monotonic() - begun
-        test.assertLess(taken, 5, f"asked with {number}")
+        test.assertLess(taken, 20, f"asked with {number}")
 
 
 def doubled(last, many, base=("star",)):

@@ -7,16 +7,19 @@ those that are told be as large as they are, and be handed on.
 import unittest
 
 from evenkinds.around import surrounding
+from evenkinds.between import between
 from evenkinds.book import WORDS, is_step
 from evenkinds.errors import NoKind, NoStep
 from evenkinds.kept import kept
 from evenkinds.kinds import count, gift, things
+from evenkinds.leader import lead
 from evenkinds.looks import looked, part
 from evenkinds.names import lifted, put_in
 from evenkinds.plain import plain_table, plain_thing
 from evenkinds.programs import at_place, kind_of, replaced
 from evenkinds.reckoning import steps_of
 from evenkinds.running import going_on, run
+from evenkinds.shelf import are_alike
 from evenkinds.tables import rows, table
 from evenkinds.walked import names_at, reverse, walked
 from evenkinds.worlds import told
@@ -279,6 +282,89 @@ class Plain(unittest.TestCase):
                     self.assertEqual(len(table(("let", program, STAR), ())), 1)
 
         each_soon(self, asked)
+
+    def test_ways_of_one_thing_that_speak_of_all_names(self):
+        def asked(many):
+            for kind in (TWO, FOUR, way(TWO, TWO)):
+                last = chain(many - 1, lambda one: ("first", ("pair", one, name(0))), STAR)
+                for number in range(many):
+                    last = ("way", kind, ("let", name(0), last) if number % 2 else last)
+                thing = told(last, (), ()) if many < 30 else told(("first", ("pair", last, STAR)), (), ())
+                for number in range(many):
+                    self.assertEqual((thing[0], len(thing[1])), ("w", count(kind)))
+                    thing = thing[1][number % 2]
+                self.assertEqual(thing, ())
+
+        each_soon(self, asked, (3, 4, 8, 12, 16, 20, 24, 28))
+
+    def test_one_thing_of_each_form(self):
+        forms = (
+            (("pair", STAR, STAR), ("p", (), ())), (("left", NONE, STAR), ("l", ())), (("right", NONE, STAR), ("r", ())),
+            (("way", NONE, ("never", FOUR, name(0))), ("w", ())), (("left", both(NONE, TWO), STAR), ("l", ())),
+            (("way", both(TWO, NONE), STAR), ("w", ())),
+        )
+
+        def asked(many):
+            for form, end in forms:
+                # So that each speaks of the name ahead of it.
+                program = ("second", ("pair", name(0), form if form[0] != "way" else lifted(form, 1, 0)))
+                program = chain(many, lambda one: ("way", TWO, ("second", ("pair", name(0), one))), program)
+                thing = told(("way", TWO, program), (), ())
+                for number in range(many + 1):
+                    self.assertEqual((thing[0], len(thing[1])), ("w", 2))
+                    thing = thing[1][number % 2]
+                self.assertEqual(thing, end)
+
+        each_soon(self, asked, (2, 4, 8, 12, 16, 20, 24))
+
+    def test_names_that_ask_nothing(self):
+        def asked(many):
+            for one in (TWO, FOUR, either(either(FOUR, FOUR), either(FOUR, FOUR))):
+                kind = chain(many, lambda kind: way(one, kind), ONE)
+                self.assertEqual(plain_table((kind,), TWO, [R]), RIGHT)
+                self.assertEqual(plain_table((TWO, kind), ONE, [(), ()]), ("case", name(0), STAR, STAR))
+                self.assertEqual(plain_table((both(kind, TWO),), ONE, [(), ()]), ("case", ("second", name(0)), STAR, STAR))
+                self.assertEqual(table(name(0), (TWO, kind)), [L, R])
+
+        each_soon(self, asked, (1, 2, 3, 5, 8, 11))
+
+
+class Led(unittest.TestCase):
+    """[20]: kinds of at most 4 things, programs of at most 16 parts."""
+
+    def leads(self, program, names, most):
+        row = lead(program, names)
+        self.assertLessEqual(len(row), most)
+        plain = plain_table(names, kind_of(program, names), table(program, names))
+        self.assertTrue(are_alike(walked(program, names, row), plain))
+        self.assertTrue(are_alike(walked(plain, names, reverse(row)), program))
+        self.assertEqual(lead(plain, names) if names == () else [], [])
+        self.assertTrue(are_alike(walked(program, names, between(program, plain, names)), plain))
+
+    def test_ways_within_ways(self):
+        def asked(many):
+            for kind, most in ((TWO, 1), (ONE, 0), (NONE, 1), (both(ONE, TWO), 1)):
+                self.leads(chain(many, lambda one: ("way", kind, one), STAR), (), most * many)
+
+        each_soon(self, asked, (1, 2, 4, 6, 8, 15))
+
+    def test_ways_over_four_things(self):
+        def asked(many):
+            for kind in (either(ONE, either(ONE, TWO)), FOUR, way(TWO, TWO)):
+                self.leads(chain(many, lambda one: ("way", kind, one), STAR), (), 5 * many)
+
+        each_soon(self, asked, (1, 2, 4, 6, 8))
+
+    def test_names_of_ways_within_ways(self):
+        def asked(many):
+            kind = chain(many, lambda one: way(TWO, one), ONE)
+            self.leads(name(0), (kind,), 4 * many + 1)
+            self.leads(name(0), (TWO, kind), 10)
+            self.leads(("pair", name(0), name(1)), (TWO, kind), 4 * many + 20)
+            self.leads(("give", name(0), LEFT), (kind,), 4 * many + 20)
+            self.leads(("case", name(0), name(2), ("second", ("pair", name(0), name(2)))), (TWO, kind), 4 * many + 20)
+
+        each_soon(self, asked, (1, 2, 4, 6, 8, 11))
 
 
 class Kept(unittest.TestCase):
