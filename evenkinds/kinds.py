@@ -48,6 +48,17 @@ def joined_count(word, first, second):
     return power(second, first)
 
 
+# How many things a kind has: none, one, or more, which is told as two; by what its halves have.
+def none_one_or_more(word, halves):
+    if word == "either":
+        return min(2, halves[0] + halves[1])
+    if word == "both":
+        return min(2, halves[0] * halves[1])
+    if word == "way":
+        return 1 if halves[0] == 0 else halves[1]
+    return 1 if word == "one" else 0
+
+
 # By squares, so that a kind somewhat beyond the bounds, with a large exponent, takes few turns too.
 def power(base, exponent):
     answer = 1

@@ -4,8 +4,8 @@ All names are asked as the plain program asks them, so that in the end a closed 
 plain programs of the row's things in the names' places; that is run, and what stands within what it comes to is led
 in turn. A name of a one, a both or a way is opened first: in a let around all that speaks of it, it is led to where
 it is looked at in every way, and put in again. What is asked then stands there word for word, and can be taken out.
-A program of a kind that asks nothing is led to its plain program first: that speaks of no names, and is not led again
-for each row.
+A program of a kind that has but one thing is led to its plain program first: that speaks of no names, and is not led
+again for each row.
 """
 
 from evenkinds.book import split
@@ -14,11 +14,16 @@ from evenkinds.plain import asked_names, asks_nothing, expression, opened, plain
 from evenkinds.programs import at_place, kind_of, replaced
 from evenkinds.running import going_on
 from evenkinds.shelf import are_alike
+from evenkinds.walked import reverse
 
 
 def lead(program, names):
     leader = Leader(program)
     begin(leader, (), len(names), asked_names(names), kind_of(program, names), "finish")
+    return row_of(leader)
+
+
+def row_of(leader):
     while len(leader.ahead) > 0:
         task = leader.ahead.pop()
         TASKS[task[0]](leader, task[1], task[2], task)
@@ -40,7 +45,7 @@ class Leader:
 
 
 def begin(leader, place, depth, chain, kind, last):
-    if asks_nothing(kind):
+    if plain_of_one(kind) is not None:
         leader.ahead.extend([("ask", place, depth, chain, kind, "leave"), ("settle", place, depth, kind)])
     else:
         leader.ahead.append(("ask", place, depth, chain, kind, last))
@@ -102,7 +107,7 @@ def open_up(leader, place, depth, task):
         leader.ahead.append(("ask", place + (0,), depth + 1, chain, kind[2], "open"))
 
 
-# At the place stands any program of a kind that asks nothing.
+# At the place stands any program of a kind that has but one thing.
 def settle(leader, place, depth, task):
     here = leader.there(place)
     kind = task[3]
@@ -114,10 +119,38 @@ def settle(leader, place, depth, task):
         if here[0] != "pair":
             leader.go(place, "pair", ("pair", ("first", here), ("second", here)), None)
         leader.ahead.extend([("settle", place + (1,), depth, kind[2]), ("settle", place + (0,), depth, kind[1])])
-    else:
+    elif kind[0] == "way":
         if here[0] != "way":
             leader.go(place, "way", ("way", kind[1], ("give", lifted(here, 1, 0), ("name", 0))), None)
         begin(leader, place + (0,), depth + 1, ((depth, (), kind[1]), None), kind[2], "leave")
+    else:
+        settle_either(leader, place, depth, kind)
+
+
+# One side has no things. A program that doesn't come to the other one is split; then both branches are led to the plain
+# program, which is what the split tells backwards.
+def settle_either(leader, place, depth, kind):
+    here = run_at(leader, place)
+    side = 1 if plain_of_one(kind)[0] == "left" else 2
+    if here[0] == ("left", "right")[side - 1]:
+        leader.ahead.append(("settle", place + (0,), depth, kind[side]))
+        return
+    leader.go(place, "split", split(("name", 0), here, kind), ("name", 0))
+    leader.ahead.append(("join", place, depth, kind))
+    leader.ahead.append(("ask", place + (3 - side,), depth + 1, ((depth, (), kind[3 - side]), None), kind, "leave"))
+    leader.ahead.append(("settle", place + (side, 0), depth + 1, kind[side]))
+
+
+# In the branch without things stands what the plain program, and any other, is led to by asking its name.
+def join_branches(leader, place, depth, task):
+    kind = task[3]
+    plain = plain_of_one(kind)
+    side = 2 if plain[0] == "left" else 1
+    other = Leader(plain)
+    other.ahead.append(("ask", (), depth + 1, ((depth, (), kind[side]), None), kind, "leave"))
+    for step in reverse(row_of(other)):
+        leader.go(place + (side,) + step[0], step[1], step[3], step[4])
+    leader.go(place, "split", plain, plain)
 
 
 # At the place stands a plain program.
@@ -153,6 +186,7 @@ TASKS = {
     "put in": put_in_again,
     "open": open_up,
     "settle": settle,
+    "join": join_branches,
     "leave": leave,
     "finish": finish,
 }

@@ -62,6 +62,7 @@ class OddReader:
         self.others = Shelf()
         self.readings = []
         self.inhabited = []
+        self.firsts = {}
 
     def reading(self, kind):
         while len(self.readings) <= kind:
@@ -145,10 +146,16 @@ def read_evenly(reader, program, parts):
     return (program[0],) + tuple(parts)
 
 
-# The first thing of what the kind is read as: a let for each kind that it is built of, so that what doubles and doubles
-# is told but once.
+# The first thing of what the kind is read as.
 def first_of(reader, kind):
-    last = reader.reading(kind)
+    other = reader.reading(kind)
+    if other not in reader.firsts:
+        reader.firsts[other] = first_program(reader, other)
+    return reader.firsts[other]
+
+
+# A let for each kind that it is built of, so that what doubles and doubles is told but once.
+def first_program(reader, last):
     wanted = {last: True}
     for other in reversed(list(range(last + 1))):
         if other in wanted:

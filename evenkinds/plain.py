@@ -5,7 +5,7 @@ from the outermost, which stays the same under further names. What is still to b
 chain behind it, or None.
 """
 
-from evenkinds.kinds import built_up, count, things, things_within
+from evenkinds.kinds import built_up, count, none_one_or_more, things, things_within
 from evenkinds.shelf import made_of_parts, taken
 
 
@@ -64,19 +64,24 @@ def asks_nothing(kind):
     return not built_up(kind, {"none": (True, False), "one": (False, True)}, joined_asking)[0]
 
 
-# The plain program of the one thing of a kind that asks nothing; None for another kind.
+# The plain program of the only thing of a kind that has just one; None for another kind.
 def plain_of_one(kind):
-    return made_of_parts(kind, lambda here: here[1:], one_by_parts)
+    return made_of_parts(kind, lambda here: here[1:], one_by_parts)[1]
 
 
+# Ahead of it how many things the kind has.
 def one_by_parts(kind, parts):
+    many = none_one_or_more(kind[0], [part[0] for part in parts])
+    inside = [part[1] for part in parts]
+    if many != 1:
+        return (many, None)
     if kind[0] == "one":
-        return ("star",)
-    if kind[0] == "both" and parts[0] is not None and parts[1] is not None:
-        return ("pair", parts[0], parts[1])
-    if kind[0] == "way" and (parts[1] is not None or count(kind[1]) == 0):
-        return ("way", kind[1], asking(kind[1:2], kind[2], [parts[1]] * count(kind[1])))
-    return None
+        return (1, ("star",))
+    if kind[0] == "both":
+        return (1, ("pair", inside[0], inside[1]))
+    if kind[0] == "either":
+        return (1, ("left", kind[2], inside[0]) if inside[0] is not None else ("right", kind[1], inside[1]))
+    return (1, ("way", kind[1], asking(kind[1:2], kind[2], [inside[1]] * count(kind[1]))))
 
 
 # Whether something is asked, and whether there are things.

@@ -6,7 +6,7 @@ never walked part by part. All goes through a list of what is still to be done, 
 far deeper than 60.
 """
 
-from evenkinds.kinds import things, things_within
+from evenkinds.kinds import none_one_or_more, things, things_within
 from evenkinds.programs import kind_of_node, noded, shelved_names, used_names
 from evenkinds.shelf import Shelf, made_of_parts, taken
 
@@ -110,7 +110,6 @@ class World:
             self.known[number] = [self.given(kind, thing) for thing in things(kind)]
         return self.known[number]
 
-
     # The only thing of a kind that has just one, by the kind's number; None where it has others, or isn't known.
     def sole(self, kind):
         if kind is None or kind < 0:
@@ -119,7 +118,7 @@ class World:
             self.soles.append(self.sole_by_halves(len(self.soles)))
         return self.soles[kind][1]
 
-    # With how many things it has: none, one, or more, which is told as two.
+    # Ahead of it how many things the kind has.
     def sole_by_halves(self, kind):
         word = self.shelf.word_at(kind)
         halves = [self.soles[half] for half in self.shelf.within(kind)]
@@ -137,16 +136,6 @@ class World:
             return (1, self.whole_held("right", (held[1],)))
         way = self.shelf.tuple_at(kind)
         return (1, self.given_way(way, [held[1]] * len(self.held_things(way[1]))))
-
-
-def none_one_or_more(word, halves):
-    if word == "either":
-        return min(2, halves[0] + halves[1])
-    if word == "both":
-        return min(2, halves[0] * halves[1])
-    if word == "way":
-        return 1 if halves[0] == 0 else halves[1]
-    return 1 if word == "one" else 0
 
 
 def form_of(kind, thing):

@@ -353,7 +353,19 @@ class Led(unittest.TestCase):
             for kind in (either(ONE, either(ONE, TWO)), FOUR, way(TWO, TWO)):
                 self.leads(chain(many, lambda one: ("way", kind, one), STAR), (), 5 * many)
 
-        each_soon(self, asked, (1, 2, 4, 6, 8))
+        each_soon(self, asked, (1, 2, 4, 6, 7))
+
+    def test_ways_to_an_either_of_one_thing(self):
+        left = ("left", NONE, STAR)
+
+        def asked(many):
+            for kind in (TWO, either(ONE, either(ONE, TWO))):
+                for last in (left, ("case", name(0), left, left), ("case", name(many - 1), left, left),
+                             ("case", name(0), ("case", ("right", NONE, STAR), ("never", either(ONE, NONE), name(0)), left), left),
+                             ("first", ("pair", ("right", both(NONE, TWO), STAR), name(0)))):
+                    self.leads(chain(many, lambda one: ("way", kind, one), last), (), 3 * many + 9)
+
+        each_soon(self, asked, (1, 2, 4, 6, 7))
 
     def test_names_of_ways_within_ways(self):
         def asked(many):
@@ -411,8 +423,9 @@ class Kept(unittest.TestCase):
 
     def test_over_names(self):
         def asked(many):
-            for word in self.words():
+            for word in WORDS:
                 self.keeps(word, doubled(("left", TWO, name(0)), many, name(0)), (NONE,))
+            for word in self.words():
                 self.keeps(word, doubled(("case", self.LAST, ("pair", name(0), name(many + 2)), ("never", both(
                     kind_of(doubled(name(0), many), ()), TWO), name(many + 3))), many), (TWO, NONE))
 

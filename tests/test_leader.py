@@ -105,6 +105,27 @@ class Lead(unittest.TestCase):
             if len(rows_again(names)) <= 8:
                 self.led(maker.of_kind(maker.some_kind(names), names, 2 + seed % 3), names)
 
+    def test_kinds_of_one_thing(self):
+        kinds = [kind for kind in small_kinds(3) if len(things_again(kind)) == 1 and kind != ONE]
+        names = ((), (TWO,), (NONE,), (both(TWO, NONE), ONE), (way(ONE, TWO), TWO), (either(ONE, NONE), NONE),
+                 (THREE, TWO), (either(NONE, both(ONE, ONE)), TWO))
+        longest = 0
+        for seed in range(400):
+            maker = Total(seed, SMALL[seed % 9::9] + [TWO, ONE])
+            program = maker.of_kind(kinds[seed * 7 % len(kinds)], names[seed % len(names)], 4)
+            if size(program) <= 24:
+                longest = max(longest, self.led(program, names[seed % len(names)]))
+        self.assertGreater(longest, 10)
+
+    def test_an_either_of_one_thing(self):
+        for empty in (NONE, both(TWO, NONE), way(TWO, NONE), either(NONE, both(NONE, ONE))):
+            for kind in (either(ONE, empty), either(empty, ONE), either(both(ONE, ONE), empty)):
+                self.led(name(0), (kind,))
+                self.led(("case", name(0), name(2), name(2)), (TWO, kind))
+                self.led(("way", TWO, ("case", name(0), name(2), name(2))), (kind,))
+                self.led(("give", name(1), name(0)), (TWO, way(TWO, kind)))
+                self.led(("first", name(0)), (both(kind, TWO),))
+
     def test_long_runs(self):
         twice = ("way", TWO, ("give", name(1), ("give", name(1), name(0))))
         program = ("let", NOT, ("let", twice, ("let", twice, ("give", name(0), RIGHT))))
